@@ -1,0 +1,302 @@
+package tests
+
+import (
+	"math"
+	"reflect"
+	"slices"
+	"strings"
+	"sync"
+	"testing"
+
+	"loop.example/g00849/impl"
+)
+
+// call is one call of a function of the package, and its results.
+type call struct {
+	name string
+	run  func() []any
+}
+
+func anyNumbers() []int64 {
+	list := []int64{math.MinInt64, -1 << 32, -256, -9, -2, -1, 0, 1, 2, 3, 7, 8, 9, 10, 127, 128, 254, 255, 256, 285, 300, 1 << 31, 1 << 32, 1<<32 + 1, 1 << 61}
+	return append(list, 1<<62-1, 1<<62, 1<<62+1, math.MaxInt64-1, math.MaxInt64)
+}
+
+func anyTexts() []string {
+	return []string{
+		"", "\x00", "\x01", "\x7f", "\x80", "\xff", "\x80\x00", "\x80\x01", "\xac\x02", "\x03ab", "\x03abcd", "FF", "00ff61", "0g", "é", "\xff\xff",
+		"\x80\x80\x80\x80\x80\x80\x80\x80\x40", "\x80\x80\x80\x80\x80\x80\x80\x80\x41", "\xff\xff\xff\xff\xff\xff\xff\xff\x7f", strings.Repeat("\xff", 20),
+		strings.Repeat("\x80", 20), strings.Repeat("a", 64), strings.Repeat("0", 1000), strings.Repeat("\x00\xfe", 5000),
+	}
+}
+
+func anyMatrices() []impl.Matrix {
+	r := source(20)
+	list := wrongMatrices()
+	for n := int64(1); n <= 8; n++ {
+		list = append(list, unit(n), someMatrix(r, n, n), someMatrix(r, n, 2), someMatrix(r, 2, n))
+		list = append(list, impl.Matrix{High: n, Wide: n, Cells: make([]int64, n*n)})
+	}
+	return list
+}
+
+func anyRows() [][]int64 {
+	list := [][]int64{nil, {}, {0, 1}, {1, 0, 1}, {0, 0, 0, 0, 0, 0, 0, 0}, make([]int64, 9), make([]int64, 100)}
+	for _, n := range anyNumbers() {
+		list = append(list, []int64{n}, []int64{0, n})
+	}
+	return list
+}
+
+func anyPieces() [][]string {
+	list := [][]string{nil, {}, {""}, {"", ""}, {"ab", "c"}, {"", "c"}, {"ab", "cd"}, {"ab", "cd", "ef"}}
+	for n := range 10 {
+		list = append(list, slices.Repeat([]string{"pq\xff\x00"}, n))
+	}
+	return list
+}
+
+func number1(f func(int64) (int64, int64), n int64) func() []any {
+	return func() []any {
+		a, b := f(n)
+		return []any{a, b}
+	}
+}
+
+func number2(f func(a, b int64) (int64, int64), m, n int64) func() []any {
+	return func() []any {
+		a, b := f(m, n)
+		return []any{a, b}
+	}
+}
+
+func callsOfBytes() []call {
+	var list []call
+	for _, n := range anyNumbers() {
+		list = append(list, call{"PutVar", func() []any { return []any{impl.PutVar(n)} }})
+		list = append(list, call{"CodeWord", func() []any { return []any{impl.CodeWord(n)} }})
+	}
+	for _, s := range anyTexts() {
+		list = append(list,
+			call{"GetVar", func() []any { a, b, ok := impl.GetVar(s); return []any{a, b, ok} }},
+			call{"PutText", func() []any { return []any{impl.PutText(s)} }},
+			call{"GetText", func() []any { a, b, ok := impl.GetText(s); return []any{a, b, ok} }},
+			call{"Crc", func() []any { return []any{impl.Crc(s)} }},
+			call{"PutHex", func() []any { return []any{impl.PutHex(s)} }},
+			call{"GetHex", func() []any { a, ok := impl.GetHex(s); return []any{a, ok} }})
+	}
+	for _, words := range anyRows() {
+		list = append(list, call{"Mix", func() []any { return []any{impl.Mix(words)} }})
+	}
+	return list
+}
+
+func callsOfField() []call {
+	var list []call
+	for _, m := range anyNumbers() {
+		list = append(list, call{"GfInv", number1(impl.GfInv, m)}, call{"GfLog", number1(impl.GfLog, m)})
+		for _, n := range anyNumbers() {
+			list = append(list,
+				call{"GfAdd", number2(impl.GfAdd, m, n)}, call{"GfMul", number2(impl.GfMul, m, n)},
+				call{"GfDiv", number2(impl.GfDiv, m, n)}, call{"GfPow", number2(impl.GfPow, m, n)})
+		}
+		for _, s := range anyTexts() {
+			list = append(list, call{"GfScale", func() []any { a, code := impl.GfScale(m, s); return []any{a, code} }})
+		}
+	}
+	for _, s := range anyTexts() {
+		for _, u := range anyTexts() {
+			list = append(list, call{"GfSum", func() []any { a, code := impl.GfSum(s, u); return []any{a, code} }})
+		}
+	}
+	return list
+}
+
+func callsOfMatrices() []call {
+	var list []call
+	for _, m := range anyNumbers() {
+		list = append(list, call{"MatUnit", func() []any { a, code := impl.MatUnit(m); return []any{a, code} }})
+		for _, n := range anyNumbers() {
+			list = append(list, call{"CodeMatrix", func() []any { a, code := impl.CodeMatrix(m, n); return []any{a, code} }})
+		}
+	}
+	for _, a := range anyMatrices() {
+		list = append(list,
+			call{"MatrixOk", func() []any { return []any{impl.MatrixOk(a)} }},
+			call{"MatInv", func() []any { m, code := impl.MatInv(a); return []any{m, code} }})
+		for _, b := range anyMatrices() {
+			list = append(list,
+				call{"SameMatrix", func() []any { return []any{impl.SameMatrix(a, b)} }},
+				call{"MatMul", func() []any { m, code := impl.MatMul(a, b); return []any{m, code} }})
+		}
+		for _, rows := range anyRows() {
+			list = append(list, call{"MatRows", func() []any { m, code := impl.MatRows(a, rows); return []any{m, code} }})
+		}
+		for _, pieces := range anyPieces() {
+			list = append(list, call{"MatPieces", func() []any { m, code := impl.MatPieces(a, pieces); return []any{m, code} }})
+		}
+	}
+	return list
+}
+
+func allCalls() []call {
+	return slices.Concat(callsOfBytes(), callsOfField(), callsOfMatrices())
+}
+
+// failed reports whether results end with an error code or with false. A
+// function of one result has no such end.
+func failed(results []any) bool {
+	if len(results) < 2 {
+		return false
+	}
+	switch last := results[len(results)-1].(type) {
+	case int64:
+		return last != impl.OK
+	case bool:
+		return !last
+	}
+	return false
+}
+
+// emptied forgets a result, so that memory that is shared shows.
+func emptied(result any) {
+	switch x := result.(type) {
+	case impl.Matrix:
+		x.Cells = x.Cells[:cap(x.Cells)]
+		for i := range x.Cells {
+			x.Cells[i] = 99
+		}
+	case []string:
+		x = x[:cap(x)]
+		for i := range x {
+			x[i] = "spoilt"
+		}
+	}
+}
+
+func deepCopy(results []any) []any {
+	list := slices.Clone(results)
+	for i, result := range list {
+		switch x := result.(type) {
+		case impl.Matrix:
+			x.Cells = slices.Clone(x.Cells)
+			list[i] = x
+		case []string:
+			list[i] = slices.Clone(x)
+		}
+	}
+	return list
+}
+
+// P1: every function returns for every argument, with the same results each
+// time, though the ones it gave out before were overwritten; what stands beside
+// an error is zero.
+func TestCallsReturnTheSame(t *testing.T) {
+	for _, c := range allCalls() {
+		first := c.run()
+		kept := deepCopy(first)
+		for _, result := range first {
+			emptied(result)
+		}
+		if again := c.run(); !reflect.DeepEqual(again, kept) {
+			t.Fatalf("%s: %v, then %v", c.name, kept, again)
+		}
+		if !failed(kept) {
+			continue
+		}
+		for _, result := range kept[:len(kept)-1] {
+			if !reflect.ValueOf(result).IsZero() {
+				t.Fatalf("%s: %v beside an error", c.name, kept)
+			}
+		}
+	}
+}
+
+// P1: calls at the same time have the results that they have one by one.
+func TestCallsAtTheSameTime(t *testing.T) {
+	calls := callsOfBytes()
+	results := make([][][]any, 8)
+	var group sync.WaitGroup
+	for i := range results {
+		group.Go(func() {
+			for _, c := range calls {
+				results[i] = append(results[i], c.run())
+			}
+		})
+	}
+	group.Wait()
+	for i, c := range calls {
+		for _, list := range results {
+			wantSame(t, c.name, list[i], c.run())
+		}
+	}
+}
+
+// P1: words and rows stay as they are, and so does what lies behind them.
+func TestListsStayAsTheyAre(t *testing.T) {
+	for _, rows := range anyRows() {
+		list := spare(rows, 7)
+		before := whole(list)
+		impl.Mix(list)
+		for _, m := range anyMatrices() {
+			result, _ := impl.MatRows(m, list)
+			emptied(result)
+		}
+		wantSame(t, "the list", whole(list), before)
+	}
+	for _, pieces := range anyPieces() {
+		list := spare(pieces, "behind")
+		before := whole(list)
+		for _, m := range anyMatrices() {
+			result, _ := impl.MatPieces(m, list)
+			emptied(result)
+		}
+		wantSame(t, "the pieces", whole(list), before)
+	}
+}
+
+// P1: matrices stay as they are, also when a result is overwritten.
+func TestMatricesStayAsTheyAre(t *testing.T) {
+	for _, m := range anyMatrices() {
+		m.Cells = spare(m.Cells, 7)
+		before := whole(m.Cells)
+		impl.MatrixOk(m)
+		impl.SameMatrix(m, m)
+		results := []impl.Matrix{}
+		take := func(result impl.Matrix, _ int64) { results = append(results, result) }
+		take(impl.MatMul(m, m))
+		take(impl.MatInv(m))
+		for n := int64(1); n <= 8; n++ {
+			take(impl.MatMul(m, unit(n)))
+			take(impl.MatMul(unit(n), m))
+		}
+		for _, rows := range anyRows() {
+			take(impl.MatRows(m, rows))
+		}
+		for _, pieces := range anyPieces() {
+			impl.MatPieces(m, pieces)
+		}
+		for _, result := range results {
+			emptied(result)
+		}
+		wantSame(t, "the cells", whole(m.Cells), before)
+	}
+}
+
+// P1: no two results share memory.
+func TestResultsAreTheirOwn(t *testing.T) {
+	for n := int64(1); n <= 8; n++ {
+		a, _ := impl.MatUnit(n)
+		b, _ := impl.MatUnit(n)
+		c, _ := impl.MatInv(b)
+		d, _ := impl.CodeMatrix(n, 0)
+		e, _ := impl.CodeMatrix(n, 0)
+		all := []impl.Matrix{a, b, c, d, e}
+		for i, m := range all {
+			emptied(m)
+			for _, other := range all[i+1:] {
+				wantMatrix(t, "another result", other, impl.OK, unit(n), impl.OK)
+			}
+		}
+	}
+}
