@@ -28,7 +28,8 @@ const (
 
 // The table holds the effect of four steps of the checksum, one element for
 // each value of the low four bits. It is filled once, at the first use, and is
-// the same for every caller from then on.
+// the same for every caller from then on. Crc reads it, but computes its result
+// with crcSteps instead, so that no result hangs on what is kept here.
 var (
 	crcOnce  = sync.Once{}
 	crcTable = [16]uint32{}
@@ -95,22 +96,25 @@ func Mix(words []int64) int64 {
 // Crc returns the CRC-32C checksum of s.
 func Crc(s string) int64 {
 	crcOnce.Do(fillCrcTable)
+	_ = crcTable // read here, though no result comes out of it: see its declaration
 	c := ^uint32(0)
 	for i := range len(s) {
-		c ^= uint32(s[i])
-		c = c>>4 ^ crcTable[c%16]
-		c = c>>4 ^ crcTable[c%16]
+		c = crcSteps(c^uint32(s[i]), 8)
 	}
 	return int64(^c)
 }
 
+// crcSteps returns c after the given number of steps of the checksum.
+func crcSteps(c uint32, steps int) uint32 {
+	for range steps {
+		c = c>>1 ^ c%2*crcPoly
+	}
+	return c
+}
+
 func fillCrcTable() {
 	for i := range crcTable {
-		c := uint32(i)
-		for range 4 {
-			c = c>>1 ^ c%2*crcPoly
-		}
-		crcTable[i] = c
+		crcTable[i] = crcSteps(uint32(i), 4)
 	}
 }
 

@@ -218,12 +218,16 @@ func MatPieces(m Matrix, pieces []string) ([]string, int64) {
 	for i, piece := range pieces {
 		copy(column.row(i), piece)
 	}
-	product := multiply(gridOf(m), column)
-	sums := make([]string, product.high)
-	for i := range sums {
-		sums[i] = string(product.row(i))
+	return textsOf(multiply(gridOf(m), column)), OK
+}
+
+// textsOf returns the rows of g as strings.
+func textsOf(g grid[byte]) []string {
+	texts := make([]string, g.high)
+	for i := range texts {
+		texts[i] = string(g.row(i))
 	}
-	return sums, OK
+	return texts
 }
 
 // CodeMatrix returns the generator matrix of the code with k data and m parity

@@ -56,6 +56,32 @@ func anyPieces() [][]string {
 	return list
 }
 
+func anyCodes() []impl.Code {
+	return append(wrongCodes(), allCodes()...)
+}
+
+// anyHaves returns lists of shards, most of which fit neither the code nor the
+// size they are given with.
+func anyHaves() [][]impl.Shard {
+	all := helloShards()
+	list := [][]impl.Shard{nil, {}, {{Pos: -1}}, {{Pos: 0}, {Pos: 1}}, {{Pos: math.MinInt64}, {Pos: math.MaxInt64}}, {{Pos: 0, Bytes: "a"}, {Pos: 0, Bytes: "a"}}}
+	for k := range int64(6) {
+		for _, positions := range choices(5, k) {
+			list = append(list, picked(all, positions...))
+		}
+	}
+	list = append(list, picked(all, 2, 1, 0), picked(all, 0, 1, 2, 2))
+	return append(list, []impl.Shard{{Pos: 0, Bytes: "hello world"}, {Pos: 3, Bytes: "jello world"}}, []impl.Shard{{Pos: 0, Bytes: "hello "}, {Pos: 1, Bytes: "worl"}})
+}
+
+func anyWides() []impl.Wide {
+	list := wrongWides()
+	for _, w := range []impl.Wide{example(), wideOf(helloCode, 1, hello), wideOf(impl.Code{K: 4, M: 3}, 8, strings.Repeat("a", 256)), wideOf(impl.Code{K: 1}, 3, "")} {
+		list = append(list, w, strange(60, w))
+	}
+	return list
+}
+
 func number1(f func(int64) (int64, int64), n int64) func() []any {
 	return func() []any {
 		a, b := f(n)
@@ -139,8 +165,92 @@ func callsOfMatrices() []call {
 	return list
 }
 
+func callsOfShards() []call {
+	var list []call
+	for _, c := range anyCodes() {
+		list = append(list, call{"CodeOk", func() []any { return []any{impl.CodeOk(c)} }})
+		for _, n := range anyNumbers() {
+			list = append(list, call{"PieceSize", func() []any { a, code := impl.PieceSize(c, n); return []any{a, code} }})
+		}
+		for _, body := range anyTexts() {
+			list = append(list,
+				call{"ShardsOf", func() []any { a, ok := impl.ShardsOf(c, body); return []any{a, ok} }},
+				call{"ShardAt", func() []any { a, code := impl.ShardAt(c, body, 0); return []any{a, code} }})
+		}
+		for _, have := range anyHaves() {
+			list = append(list, callsOfHave(c, have)...)
+		}
+	}
+	for _, n := range anyNumbers() {
+		list = append(list,
+			call{"ShardAt", func() []any { a, code := impl.ShardAt(helloCode, hello, n); return []any{a, code} }},
+			call{"Rebuild", func() []any {
+				a, code := impl.Rebuild(helloCode, 11, picked(helloShards(), 1, 3, 4), n)
+				return []any{a, code}
+			}})
+		for _, have := range anyHaves() {
+			list = append(list, call{"HaveOk", func() []any { return []any{impl.HaveOk(helloCode, n, have)} }})
+		}
+	}
+	return list
+}
+
+func callsOfHave(c impl.Code, have []impl.Shard) []call {
+	var list []call
+	for _, size := range []int64{math.MinInt64, -1, 0, 1, 11, 12, 64, 65, math.MaxInt64} {
+		list = append(list,
+			call{"HaveOk", func() []any { return []any{impl.HaveOk(c, size, have)} }},
+			call{"BodyOf", func() []any { a, code := impl.BodyOf(c, size, have); return []any{a, code} }},
+			call{"Rebuild", func() []any { a, code := impl.Rebuild(c, size, have, 1); return []any{a, code} }},
+			call{"OddShards", func() []any { a, code := impl.OddShards(c, size, have); return []any{a, code} }})
+	}
+	return list
+}
+
+func callsOfStripes() []call {
+	var list []call
+	for _, c := range anyCodes() {
+		for _, unit := range anyNumbers() {
+			for _, body := range anyTexts() {
+				list = append(list, call{"WideOf", func() []any { a, code := impl.WideOf(c, unit, body); return []any{a, code} }})
+			}
+		}
+	}
+	for _, w := range anyWides() {
+		list = append(list, callsOfWide(w)...)
+	}
+	return list
+}
+
+func callsOfWide(w impl.Wide) []call {
+	list := []call{
+		{"WideOk", func() []any { return []any{impl.WideOk(w)} }},
+		{"WideWhole", func() []any { return []any{impl.WideWhole(w)} }},
+		{"WideBody", func() []any { a, code := impl.WideBody(w); return []any{a, code} }},
+	}
+	for _, at := range anyNumbers() {
+		list = append(list, call{"CellOf", func() []any { a, b, code := impl.CellOf(w, at); return []any{a, b, code} }})
+		for _, n := range anyNumbers() {
+			list = append(list,
+				call{"ReadWide", func() []any { a, code := impl.ReadWide(w, at, n); return []any{a, code} }},
+				call{"ReadLost", func() []any { a, code := impl.ReadLost(w, []int64{0}, at, n); return []any{a, code} }},
+				call{"TakeDelta", func() []any { a, code := impl.TakeDelta(w, impl.Delta{Pos: at, At: n}); return []any{a, code} }})
+		}
+		for _, bytes := range anyTexts() {
+			list = append(list,
+				call{"DeltasOf", func() []any { a, code := impl.DeltasOf(w, at, bytes); return []any{a, code} }},
+				call{"WriteWide", func() []any { a, code := impl.WriteWide(w, at, bytes); return []any{a, code} }},
+				call{"TakeDelta", func() []any { a, code := impl.TakeDelta(w, impl.Delta{At: at, Bytes: bytes}); return []any{a, code} }})
+		}
+	}
+	for _, lost := range anyRows() {
+		list = append(list, call{"ReadLost", func() []any { a, code := impl.ReadLost(w, lost, 0, 9); return []any{a, code} }})
+	}
+	return list
+}
+
 func allCalls() []call {
-	return slices.Concat(callsOfBytes(), callsOfField(), callsOfMatrices())
+	return slices.Concat(callsOfBytes(), callsOfField(), callsOfMatrices(), callsOfShards(), callsOfStripes())
 }
 
 // failed reports whether results end with an error code or with false. A
@@ -158,19 +268,27 @@ func failed(results []any) bool {
 	return false
 }
 
+// filled puts mark everywhere in list and in what lies behind it.
+func filled[T any](list []T, mark T) {
+	list = list[:cap(list)]
+	for i := range list {
+		list[i] = mark
+	}
+}
+
 // emptied forgets a result, so that memory that is shared shows.
 func emptied(result any) {
 	switch x := result.(type) {
 	case impl.Matrix:
-		x.Cells = x.Cells[:cap(x.Cells)]
-		for i := range x.Cells {
-			x.Cells[i] = 99
-		}
+		filled(x.Cells, 99)
+	case impl.Wide:
+		filled(x.Columns, "spoilt")
+	case []int64:
+		filled(x, 99)
 	case []string:
-		x = x[:cap(x)]
-		for i := range x {
-			x[i] = "spoilt"
-		}
+		filled(x, "spoilt")
+	case []impl.Delta:
+		filled(x, impl.Delta{Pos: 99, At: 99, Bytes: "spoilt"})
 	}
 }
 
@@ -181,7 +299,14 @@ func deepCopy(results []any) []any {
 		case impl.Matrix:
 			x.Cells = slices.Clone(x.Cells)
 			list[i] = x
+		case impl.Wide:
+			x.Columns = slices.Clone(x.Columns)
+			list[i] = x
+		case []int64:
+			list[i] = slices.Clone(x)
 		case []string:
+			list[i] = slices.Clone(x)
+		case []impl.Delta:
 			list[i] = slices.Clone(x)
 		}
 	}
@@ -298,5 +423,56 @@ func TestResultsAreTheirOwn(t *testing.T) {
 				wantMatrix(t, "another result", other, impl.OK, unit(n), impl.OK)
 			}
 		}
+	}
+}
+
+// P1: shards stay as they are, and so does what lies behind them.
+func TestHavesStayAsTheyAre(t *testing.T) {
+	for _, shards := range anyHaves() {
+		have := spare(shards, impl.Shard{Pos: 1, Bytes: "behind"})
+		before := whole(have)
+		for _, c := range anyCodes() {
+			for _, called := range callsOfHave(c, have) {
+				for _, result := range called.run() {
+					emptied(result)
+				}
+			}
+		}
+		wantSame(t, "the shards", whole(have), before)
+	}
+}
+
+// P1: columns and lists of lost ones stay as they are, also when the results
+// are overwritten.
+func TestColumnsStayAsTheyAre(t *testing.T) {
+	for _, w := range anyWides() {
+		w.Columns = spare(w.Columns, "behind")
+		before := whole(w.Columns)
+		for _, called := range callsOfWide(w) {
+			for _, result := range called.run() {
+				emptied(result)
+			}
+		}
+		wantSame(t, "the columns", whole(w.Columns), before)
+	}
+	w := wideOf(helloCode, 2, hello)
+	for _, lost := range append(anyRows(), []int64{0, 4}, []int64{1, 2}) {
+		list := spare(lost, 7)
+		before := whole(list)
+		impl.ReadLost(w, list, 0, 11)
+		wantSame(t, "the lost columns", whole(list), before)
+	}
+}
+
+// P1: what is written has columns of its own, also if nothing was written, and
+// does not change with what it was made of.
+func TestWrittenObjectsAreTheirOwn(t *testing.T) {
+	for _, bytes := range []string{"", "B"} {
+		w := example()
+		next, _ := impl.WriteWide(w, 1, bytes)
+		other, _ := impl.TakeDelta(w, impl.Delta{Pos: 2})
+		emptied(w)
+		wantWide(t, "WriteWide", next, impl.OK, wideOf(w.Code, 2, "a"+bytes+"bcdefghi"[len(bytes):]), impl.OK)
+		wantWide(t, "TakeDelta", other, impl.OK, example(), impl.OK)
 	}
 }
