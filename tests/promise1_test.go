@@ -82,6 +82,14 @@ func anyWides() []impl.Wide {
 	return list
 }
 
+func anyTrees() []impl.Tree {
+	return append(wrongTrees(), rightTrees()[:24]...)
+}
+
+func anyItems() [][]impl.Item {
+	return append(wrongItems(), rightItems()...)
+}
+
 func number1(f func(int64) (int64, int64), n int64) func() []any {
 	return func() []any {
 		a, b := f(n)
@@ -249,8 +257,66 @@ func callsOfWide(w impl.Wide) []call {
 	return list
 }
 
+func callsOfTrees() []call {
+	var list []call
+	for _, x := range anyTrees() {
+		list = append(list, callsOfTree(x)...)
+	}
+	for _, text := range append(anyTexts(), linesText, linesText+linesText, textOf(fullTree()), "node 1 1\nhost -1 1 1\n", strings.Repeat("root -1 -2\n", 2000)) {
+		list = append(list, call{"ReadTree", func() []any { a, code := impl.ReadTree(text); return []any{a, code} }})
+	}
+	return list
+}
+
+func callsOfTree(x impl.Tree) []call {
+	list := []call{
+		{"TreeOk", func() []any { return []any{impl.TreeOk(x)} }},
+		{"SameTree", func() []any { return []any{impl.SameTree(x, x)} }},
+		{"SameTree", func() []any { return []any{impl.SameTree(x, sample()), impl.SameTree(sample(), x)} }},
+		{"TreeText", func() []any { a, code := impl.TreeText(x); return []any{a, code} }},
+	}
+	for _, m := range append(anyNumbers(), -4, -12, 5) {
+		list = append(list,
+			call{"WeightOf", func() []any { a, code := impl.WeightOf(x, m); return []any{a, code} }},
+			call{"NodesUnder", func() []any { a, code := impl.NodesUnder(x, m); return []any{a, code} }},
+			call{"ChooseIn", func() []any { a, code := impl.ChooseIn(x, m, m, m); return []any{a, code} }})
+		for _, n := range anyNumbers() {
+			list = append(list,
+				call{"AboveOf", func() []any { a, code := impl.AboveOf(x, m, n); return []any{a, code} }},
+				call{"SetWeight", func() []any { a, code := impl.SetWeight(x, m, n); return []any{a, code} }},
+				call{"Descend", func() []any { a, code := impl.Descend(x, m, n, m, n); return []any{a, code} }})
+		}
+	}
+	return list
+}
+
+func callsOfStraws() []call {
+	var list []call
+	for _, straws := range anyItems() {
+		list = append(list, callsOfItems(straws)...)
+	}
+	for _, m := range anyNumbers() {
+		for _, n := range anyNumbers() {
+			list = append(list,
+				call{"TicketOf", func() []any { return []any{impl.TicketOf(m, n, n, m)} }},
+				call{"BestTicket", func() []any { a, code := impl.BestTicket(impl.Item{Id: m, Weight: n}, n, m); return []any{a, code} }})
+		}
+	}
+	return list
+}
+
+func callsOfItems(straws []impl.Item) []call {
+	list := []call{{"ItemsOk", func() []any { return []any{impl.ItemsOk(straws)} }}}
+	for _, m := range anyNumbers() {
+		list = append(list,
+			call{"ChooseOne", func() []any { a, code := impl.ChooseOne(straws, m, -m); return []any{a, code} }},
+			call{"Draws", func() []any { a, code := impl.Draws(straws, 9, m); return []any{a, code} }})
+	}
+	return list
+}
+
 func allCalls() []call {
-	return slices.Concat(callsOfBytes(), callsOfField(), callsOfMatrices(), callsOfShards(), callsOfStripes())
+	return slices.Concat(callsOfBytes(), callsOfField(), callsOfMatrices(), callsOfShards(), callsOfStripes(), callsOfTrees(), callsOfStraws())
 }
 
 // failed reports whether results end with an error code or with false. A
@@ -283,6 +349,12 @@ func emptied(result any) {
 		filled(x.Cells, 99)
 	case impl.Wide:
 		filled(x.Columns, "spoilt")
+	case impl.Tree:
+		for _, b := range x.Buckets {
+			filled(b.Items, 99)
+		}
+		filled(x.Buckets, impl.Bucket{Id: 99})
+		filled(x.Devices, impl.Device{Id: 99})
 	case []int64:
 		filled(x, 99)
 	case []string:
@@ -302,6 +374,8 @@ func deepCopy(results []any) []any {
 		case impl.Wide:
 			x.Columns = slices.Clone(x.Columns)
 			list[i] = x
+		case impl.Tree:
+			list[i] = copied(x)
 		case []int64:
 			list[i] = slices.Clone(x)
 		case []string:
@@ -475,4 +549,69 @@ func TestWrittenObjectsAreTheirOwn(t *testing.T) {
 		wantWide(t, "WriteWide", next, impl.OK, wideOf(w.Code, 2, "a"+bytes+"bcdefghi"[len(bytes):]), impl.OK)
 		wantWide(t, "TakeDelta", other, impl.OK, example(), impl.OK)
 	}
+}
+
+// P1: topologies stay as they are, and so does what lies behind their lists,
+// also when the results are overwritten.
+func TestTreesStayAsTheyAre(t *testing.T) {
+	for _, x := range anyTrees() {
+		x.Devices = spare(x.Devices, impl.Device{Id: 7})
+		x.Buckets = spare(x.Buckets, impl.Bucket{Id: 7})
+		for i, b := range x.Buckets {
+			x.Buckets[i].Items = spare(b.Items, 7)
+		}
+		before := wholeTree(x)
+		for _, called := range callsOfTree(x) {
+			for _, result := range called.run() {
+				emptied(result)
+			}
+		}
+		wantSame(t, "the topology", wholeTree(x), before)
+	}
+}
+
+// wholeTree returns a copy of x and of the unused capacity of its lists.
+func wholeTree(x impl.Tree) impl.Tree {
+	x.Devices, x.Buckets = whole(x.Devices), whole(x.Buckets)
+	for i, b := range x.Buckets {
+		x.Buckets[i].Items = whole(b.Items)
+	}
+	return x
+}
+
+// P1: items stay as they are, and so does what lies behind them.
+func TestItemsStayAsTheyAre(t *testing.T) {
+	for _, straws := range anyItems() {
+		list := spare(straws, impl.Item{Id: 2, Weight: 1})
+		before := whole(list)
+		for _, called := range callsOfItems(list) {
+			for _, result := range called.run() {
+				emptied(result)
+			}
+		}
+		wantSame(t, "the items", whole(list), before)
+	}
+}
+
+// P1: no two lists of a topology share memory.
+func TestListsOfTreesAreTheirOwn(t *testing.T) {
+	for _, x := range rightTrees() {
+		for i := range x.Buckets {
+			read, _ := impl.ReadTree(textOf(x))
+			wantOthers(t, "ReadTree", read, x, i)
+			for _, d := range x.Devices {
+				changed, _ := impl.SetWeight(x, d.Id, d.Weight)
+				wantOthers(t, "SetWeight", changed, x, i)
+			}
+		}
+	}
+}
+
+// wantOthers overwrites the items of one bucket of got, and wants all others
+// to be those of want.
+func wantOthers(t *testing.T, name string, got, want impl.Tree, at int) {
+	t.Helper()
+	filled(got.Buckets[at].Items, 99)
+	got.Buckets[at].Items = want.Buckets[at].Items
+	wantTree(t, name, got, impl.OK, want, impl.OK)
 }
