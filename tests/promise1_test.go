@@ -90,6 +90,19 @@ func anyItems() [][]impl.Item {
 	return append(wrongItems(), rightItems()...)
 }
 
+// anyRules returns rules, most of which are for none of the topologies.
+func anyRules() []impl.Rule {
+	list := []impl.Rule{{}, hostRule(true), hostRule(false), {Id: 4, Root: -4}, {Id: 2, Root: -12, Kind: impl.KdRack}, {Id: 1, Root: -1, Kind: impl.KdHost}, {Id: 1, Root: -3, Indep: true}}
+	for _, n := range []int64{math.MinInt64, -1, 3, 5, 1 << 32, math.MaxInt64} {
+		list = append(list, impl.Rule{Id: n, Root: -4}, impl.Rule{Id: 1, Root: n}, impl.Rule{Id: 1, Root: -4, Kind: n}, impl.Rule{Id: n, Root: n, Kind: n})
+	}
+	return list
+}
+
+func anyOuts() [][]int64 {
+	return append(append(someOuts(), wrongOuts()...), anyRows()...)
+}
+
 func number1(f func(int64) (int64, int64), n int64) func() []any {
 	return func() []any {
 		a, b := f(n)
@@ -315,8 +328,93 @@ func callsOfItems(straws []impl.Item) []call {
 	return list
 }
 
+func callsOfRules() []call {
+	var list []call
+	for _, x := range anyTrees() {
+		list = append(list, callsOfRulesIn(x)...)
+	}
+	for _, out := range anyOuts() {
+		list = append(list, callsOfOut(out)...)
+	}
+	return list
+}
+
+func callsOfRulesIn(x impl.Tree) []call {
+	var list []call
+	for _, r := range anyRules() {
+		list = append(list,
+			call{"RuleOk", func() []any { return []any{impl.RuleOk(x, r)} }},
+			call{"Place", func() []any { a, ok := impl.Place(x, r, 5, 4, []int64{1, 4}); return []any{a, ok} }},
+			call{"PlaceWhole", func() []any { a, ok := impl.PlaceWhole(x, r, 5, 4); return []any{a, ok} }},
+			call{"CanPlace", func() []any { a, ok := impl.CanPlace(x, r, []int64{0}); return []any{a, ok} }},
+			call{"PlacePg", func() []any {
+				a, code := impl.PlacePg(x, r, somePool(), impl.Pg{Pool: 2, No: 3}, []int64{4})
+				return []any{a, code}
+			}})
+	}
+	for _, m := range anyNumbers() {
+		list = append(list,
+			call{"Place", func() []any { a, ok := impl.Place(x, hostRule(false), m, 7, []int64{4}); return []any{a, ok} }},
+			call{"Place", func() []any { a, ok := impl.Place(x, hostRule(true), 5, m, nil); return []any{a, ok} }},
+			call{"PlaceWhole", func() []any { a, ok := impl.PlaceWhole(x, hostRule(true), m, m); return []any{a, ok} }},
+			call{"Apart", func() []any { return []any{impl.Apart(x, m, []int64{-1, 0})} }},
+			call{"Apart", func() []any { return []any{impl.Apart(x, impl.KdHost, []int64{m, -1})} }},
+			call{"DomainOf", func() []any { a, code := impl.DomainOf(x, m, 4); return []any{a, code} }},
+			call{"DomainOf", func() []any { a, code := impl.DomainOf(x, 1, m); return []any{a, code} }})
+	}
+	return list
+}
+
+// callsOfOut returns calls that take a list of devices.
+func callsOfOut(out []int64) []call {
+	var list []call
+	for _, r := range anyRules() {
+		list = append(list,
+			call{"Place", func() []any { a, ok := impl.Place(sample(), r, 2, 3, out); return []any{a, ok} }},
+			call{"CanPlace", func() []any { a, ok := impl.CanPlace(sample(), r, out); return []any{a, ok} }},
+			call{"Apart", func() []any { return []any{impl.Apart(sample(), r.Kind, out)} }},
+			call{"PlacePg", func() []any {
+				a, code := impl.PlacePg(sample(), r, somePool(), impl.Pg{Pool: 2}, out)
+				return []any{a, code}
+			}})
+	}
+	return list
+}
+
+func callsOfPools() []call {
+	var list []call
+	for _, p := range append(wrongPools(), rightPools()...) {
+		list = append(list,
+			call{"PoolOk", func() []any { return []any{impl.PoolOk(p)} }},
+			call{"PgOf", func() []any { a, ok := impl.PgOf(p, "obj1"); return []any{a, ok} }},
+			call{"PgsIn", func() []any { a, ok := impl.PgsIn(p); return []any{a, ok} }},
+			call{"Split", func() []any { a, code := impl.Split(p); return []any{a, code} }},
+			call{"PlacePg", func() []any {
+				a, code := impl.PlacePg(sample(), hostRule(true), p, impl.Pg{Pool: p.Id}, nil)
+				return []any{a, code}
+			}})
+	}
+	for _, name := range append(anyTexts(), wrongNames()...) {
+		list = append(list,
+			call{"NameOk", func() []any { return []any{impl.NameOk(name)} }},
+			call{"PgOf", func() []any { a, ok := impl.PgOf(somePool(), name); return []any{a, ok} }})
+	}
+	for _, m := range anyNumbers() {
+		for _, n := range anyNumbers() {
+			g := impl.Pg{Pool: m, No: n}
+			list = append(list,
+				call{"SeedOf", func() []any { return []any{impl.SeedOf(g)} }},
+				call{"PlacePg", func() []any {
+					a, code := impl.PlacePg(sample(), hostRule(false), somePool(), g, nil)
+					return []any{a, code}
+				}})
+		}
+	}
+	return list
+}
+
 func allCalls() []call {
-	return slices.Concat(callsOfBytes(), callsOfField(), callsOfMatrices(), callsOfShards(), callsOfStripes(), callsOfTrees(), callsOfStraws())
+	return slices.Concat(callsOfBytes(), callsOfField(), callsOfMatrices(), callsOfShards(), callsOfStripes(), callsOfTrees(), callsOfStraws(), callsOfRules(), callsOfPools())
 }
 
 // failed reports whether results end with an error code or with false. A
@@ -361,6 +459,8 @@ func emptied(result any) {
 		filled(x, "spoilt")
 	case []impl.Delta:
 		filled(x, impl.Delta{Pos: 99, At: 99, Bytes: "spoilt"})
+	case []impl.Pg:
+		filled(x, impl.Pg{Pool: 99, No: 99})
 	}
 }
 
@@ -381,6 +481,8 @@ func deepCopy(results []any) []any {
 		case []string:
 			list[i] = slices.Clone(x)
 		case []impl.Delta:
+			list[i] = slices.Clone(x)
+		case []impl.Pg:
 			list[i] = slices.Clone(x)
 		}
 	}
@@ -561,7 +663,7 @@ func TestTreesStayAsTheyAre(t *testing.T) {
 			x.Buckets[i].Items = spare(b.Items, 7)
 		}
 		before := wholeTree(x)
-		for _, called := range callsOfTree(x) {
+		for _, called := range append(callsOfTree(x), callsOfRulesIn(x)...) {
 			for _, result := range called.run() {
 				emptied(result)
 			}
@@ -591,6 +693,38 @@ func TestItemsStayAsTheyAre(t *testing.T) {
 		}
 		wantSame(t, "the items", whole(list), before)
 	}
+}
+
+// P1: lists of devices stay as they are, and so does what lies behind them.
+func TestOutsStayAsTheyAre(t *testing.T) {
+	for _, out := range anyOuts() {
+		list := spare(out, 3)
+		before := whole(list)
+		for _, called := range callsOfOut(list) {
+			for _, result := range called.run() {
+				emptied(result)
+			}
+		}
+		wantSame(t, "the devices", whole(list), before)
+	}
+}
+
+// P1: placements do not share memory, nor do lists of placement groups.
+func TestPlacementsAreTheirOwn(t *testing.T) {
+	for _, indep := range []bool{true, false} {
+		for seed := range int64(20) {
+			first, _ := impl.Place(sample(), hostRule(indep), seed, 4, nil)
+			want := slices.Clone(first)
+			second, ok := impl.Place(sample(), hostRule(indep), seed, 4, nil)
+			emptied(first)
+			wantPlaces(t, "another placement", second, ok, want, true)
+		}
+	}
+	first, _ := impl.PgsIn(somePool())
+	want := slices.Clone(first)
+	second, _ := impl.PgsIn(somePool())
+	emptied(first)
+	wantSame(t, "another list", second, want)
 }
 
 // P1: no two lists of a topology share memory.
