@@ -103,6 +103,22 @@ func anyOuts() [][]int64 {
 	return append(append(someOuts(), wrongOuts()...), anyRows()...)
 }
 
+func anyExcepts() [][]impl.Except {
+	return append(append(rightExcepts(), wrongExcepts()...), []impl.Except{except(0, 2, 1), except(0, 4, 0), except(1, 2, 4), except(2, 1, 0)})
+}
+
+func anyTables() [][][]int64 {
+	return append(rightTables(), wrongTables()...)
+}
+
+func anyMaps() []impl.Map {
+	return append(rightMaps(), wrongMaps()...)
+}
+
+func anyIncs() []impl.Inc {
+	return slices.Concat(wrongIncs()[:60], incsFor(2)[:30], incsFor(6)[:30])
+}
+
 func number1(f func(int64) (int64, int64), n int64) func() []any {
 	return func() []any {
 		a, b := f(n)
@@ -376,9 +392,13 @@ func callsOfOut(out []int64) []call {
 			call{"PlacePg", func() []any {
 				a, code := impl.PlacePg(sample(), r, somePool(), impl.Pg{Pool: 2}, out)
 				return []any{a, code}
+			}},
+			call{"Excepted", func() []any {
+				a, code := impl.Excepted(sample(), r, out, impl.Pg{Pool: 2}, []impl.Except{except(0, 4, 0)})
+				return []any{a, code}
 			}})
 	}
-	return list
+	return append(list, callsOfBalance(scene{sample(), hostRule(false), twoCopies(), []impl.Except{except(0, 2, 1)}, out})...)
 }
 
 func callsOfPools() []call {
@@ -413,8 +433,135 @@ func callsOfPools() []call {
 	return list
 }
 
+func callsOfBalances() []call {
+	var list []call
+	for _, x := range anyTrees() {
+		list = append(list, callsOfBalancesIn(x)...)
+	}
+	for _, excepts := range anyExcepts() {
+		list = append(list, callsOfExcepts(excepts)...)
+	}
+	for _, rows := range anyTables() {
+		list = append(list, callsOfTable(rows)...)
+	}
+	for _, r := range anyRules() {
+		list = append(list, callsOfBalance(scene{sample(), r, twoCopies(), nil, []int64{4}})...)
+	}
+	for i, p := range append(wrongPools(), rightPools()...) {
+		if i%50 == 0 {
+			list = append(list, callsOfBalance(scene{sample(), hostRule(true), p, nil, nil})...)
+		}
+	}
+	for _, m := range anyNumbers() {
+		list = append(list, call{"Balance", func() []any {
+			a, code := impl.Balance(sample(), hostRule(true), twoCopies(), []impl.Except{except(1, 0, 4)}, nil, m)
+			return []any{a, code}
+		}})
+		for _, n := range anyNumbers() {
+			list = append(list, call{"Excepted", func() []any {
+				a, code := impl.Excepted(sample(), hostRule(true), []int64{1, 2}, impl.Pg{Pool: m, No: n}, []impl.Except{except(1, 1, 4)})
+				return []any{a, code}
+			}})
+		}
+	}
+	return list
+}
+
+// callsOfBalance returns calls that place and balance a pool.
+func callsOfBalance(s scene) []call {
+	return []call{
+		{"PlaceAll", func() []any { a, code := impl.PlaceAll(s.x, s.r, s.p, s.list, s.out); return []any{a, code} }},
+		{"BalanceStep", func() []any { a, code := impl.BalanceStep(s.x, s.r, s.p, s.list, s.out); return []any{a, code} }},
+		{"Balance", func() []any { a, code := impl.Balance(s.x, s.r, s.p, s.list, s.out, 3); return []any{a, code} }},
+	}
+}
+
+func callsOfBalancesIn(x impl.Tree) []call {
+	list := callsOfBalance(scene{x, hostRule(true), twoCopies(), []impl.Except{except(0, 2, 1)}, nil})
+	for _, rows := range rightTables() {
+		list = append(list,
+			call{"Loads", func() []any { a, code := impl.Loads(x, rows); return []any{a, code} }},
+			call{"Spread", func() []any { a, code := impl.Spread(x, rows); return []any{a, code} }})
+	}
+	return append(list, call{"Excepted", func() []any {
+		a, code := impl.Excepted(x, hostRule(true), []int64{1, 2}, impl.Pg{Pool: 2}, []impl.Except{except(0, 1, 4)})
+		return []any{a, code}
+	}})
+}
+
+func callsOfExcepts(excepts []impl.Except) []call {
+	list := []call{{"ExceptsOk", func() []any { return []any{impl.ExceptsOk(excepts)} }}}
+	for _, out := range [][]int64{nil, {4}, {4, 4}} {
+		list = append(list, callsOfBalance(scene{sample(), hostRule(true), twoCopies(), excepts, out})...)
+	}
+	for _, places := range [][]int64{nil, {1, 2}, {4, -1, 0}, {0, 1}} {
+		list = append(list, call{"Excepted", func() []any {
+			a, code := impl.Excepted(sample(), hostRule(true), places, impl.Pg{Pool: 2}, excepts)
+			return []any{a, code}
+		}})
+	}
+	return list
+}
+
+func callsOfTable(rows [][]int64) []call {
+	list := []call{
+		{"Loads", func() []any { a, code := impl.Loads(sample(), rows); return []any{a, code} }},
+		{"Spread", func() []any { a, code := impl.Spread(sample(), rows); return []any{a, code} }},
+	}
+	for _, other := range append(anyTables(), rows) {
+		list = append(list,
+			call{"Moves", func() []any { a, code := impl.Moves(rows, other); return []any{a, code} }},
+			call{"Moves", func() []any { a, code := impl.Moves(other, rows); return []any{a, code} }})
+	}
+	return list
+}
+
+func callsOfMaps() []call {
+	var list []call
+	for _, m := range anyMaps() {
+		list = append(list, callsOfMap(m)...)
+	}
+	for _, i := range append(wrongIncs(), incsFor(60)...) {
+		list = append(list,
+			call{"IncOk", func() []any { return []any{impl.IncOk(i)} }},
+			call{"ShowInc", func() []any { return []any{impl.ShowInc(i)} }},
+			call{"ApplyInc", func() []any { a, code := impl.ApplyInc(someMap(), i); return []any{a, code} }})
+	}
+	for _, text := range append(anyTexts(), "2 up 1", "60 term", "3 weight 4 5", "3 weight 4 9", "2 up", "2 term 0", strings.Repeat("2 up ", 2000)) {
+		list = append(list, call{"ReadInc", func() []any { a, ok := impl.ReadInc(text); return []any{a, ok} }})
+	}
+	return list
+}
+
+func callsOfMap(m impl.Map) []call {
+	list := []call{
+		{"MapOk", func() []any { return []any{impl.MapOk(m)} }},
+		{"SameMap", func() []any { return []any{impl.SameMap(m, someMap())} }},
+		{"SameMap", func() []any { return []any{impl.SameMap(someMap(), m)} }},
+		{"PgsOf", func() []any { return []any{impl.PgsOf(m)} }},
+		{"ChainOk", func() []any { return []any{impl.ChainOk([]impl.Map{m})} }},
+		{"ChainOk", func() []any { return []any{impl.ChainOk([]impl.Map{m, m})} }},
+		{"ChainOk", func() []any { return []any{impl.ChainOk([]impl.Map{firstMap(), m})} }},
+		{"PlayIncs", func() []any { a, code := impl.PlayIncs(m, nil); return []any{a, code} }},
+	}
+	for _, n := range anyNumbers() {
+		list = append(list, call{"PoolIn", func() []any { a, ok := impl.PoolIn(m, n); return []any{a, ok} }})
+	}
+	for _, i := range anyIncs() {
+		list = append(list,
+			call{"ApplyInc", func() []any { a, code := impl.ApplyInc(m, i); return []any{a, code} }},
+			call{"PlayIncs", func() []any { a, code := impl.PlayIncs(m, []impl.Inc{i, i}); return []any{a, code} }})
+	}
+	for _, other := range rightMaps() {
+		list = append(list,
+			call{"IncOf", func() []any { a, code := impl.IncOf(m, other); return []any{a, code} }},
+			call{"IncOf", func() []any { a, code := impl.IncOf(other, m); return []any{a, code} }})
+	}
+	return list
+}
+
 func allCalls() []call {
-	return slices.Concat(callsOfBytes(), callsOfField(), callsOfMatrices(), callsOfShards(), callsOfStripes(), callsOfTrees(), callsOfStraws(), callsOfRules(), callsOfPools())
+	return slices.Concat(callsOfBytes(), callsOfField(), callsOfMatrices(), callsOfShards(), callsOfStripes(), callsOfTrees(), callsOfStraws(), callsOfRules(), callsOfPools(), callsOfBalances(), callsOfMaps())
 }
 
 // failed reports whether results end with an error code or with false. A
@@ -461,6 +608,26 @@ func emptied(result any) {
 		filled(x, impl.Delta{Pos: 99, At: 99, Bytes: "spoilt"})
 	case []impl.Pg:
 		filled(x, impl.Pg{Pool: 99, No: 99})
+	case [][]int64:
+		for _, row := range x {
+			filled(row, 99)
+		}
+		filled(x, []int64{99})
+	case []impl.Load:
+		filled(x, impl.Load{Node: 99, Count: 99})
+	case []impl.Except:
+		filled(x, impl.Except{From: 99, To: 99})
+	case impl.Map:
+		emptied(x.Tree)
+		filled(x.Rules, impl.Rule{Id: 99})
+		filled(x.Pools, impl.Pool{Id: 99})
+		filled(x.Up, 99)
+		filled(x.Out, 99)
+	case []impl.Map:
+		for _, m := range x {
+			emptied(m)
+		}
+		filled(x, impl.Map{Epoch: 99})
 	}
 }
 
@@ -484,9 +651,31 @@ func deepCopy(results []any) []any {
 			list[i] = slices.Clone(x)
 		case []impl.Pg:
 			list[i] = slices.Clone(x)
+		case [][]int64:
+			list[i] = copiedRows(x)
+		case []impl.Load:
+			list[i] = slices.Clone(x)
+		case []impl.Except:
+			list[i] = slices.Clone(x)
+		case impl.Map:
+			list[i] = copiedMap(x)
+		case []impl.Map:
+			x = slices.Clone(x)
+			for k, m := range x {
+				x[k] = copiedMap(m)
+			}
+			list[i] = x
 		}
 	}
 	return list
+}
+
+func copiedRows(rows [][]int64) [][]int64 {
+	rows = slices.Clone(rows)
+	for i, row := range rows {
+		rows[i] = slices.Clone(row)
+	}
+	return rows
 }
 
 // P1: every function returns for every argument, with the same results each
@@ -663,7 +852,7 @@ func TestTreesStayAsTheyAre(t *testing.T) {
 			x.Buckets[i].Items = spare(b.Items, 7)
 		}
 		before := wholeTree(x)
-		for _, called := range append(callsOfTree(x), callsOfRulesIn(x)...) {
+		for _, called := range slices.Concat(callsOfTree(x), callsOfRulesIn(x), callsOfBalancesIn(x)) {
 			for _, result := range called.run() {
 				emptied(result)
 			}
@@ -748,4 +937,133 @@ func wantOthers(t *testing.T, name string, got, want impl.Tree, at int) {
 	filled(got.Buckets[at].Items, 99)
 	got.Buckets[at].Items = want.Buckets[at].Items
 	wantTree(t, name, got, impl.OK, want, impl.OK)
+}
+
+// P1: exceptions stay as they are, and so does what lies behind them, also when
+// the results are overwritten.
+func TestExceptsStayAsTheyAre(t *testing.T) {
+	for _, excepts := range anyExcepts() {
+		list := spare(excepts, except(15, 9, 8))
+		before := whole(list)
+		for _, called := range callsOfExcepts(list) {
+			for _, result := range called.run() {
+				emptied(result)
+			}
+		}
+		wantSame(t, "the exceptions", whole(list), before)
+	}
+}
+
+// P1: tables stay as they are, and so does what lies behind them and their rows.
+func TestTablesStayAsTheyAre(t *testing.T) {
+	for _, rows := range anyTables() {
+		table := spare(copiedRows(rows), []int64{7})
+		for i, row := range table {
+			table[i] = spare(row, 7)
+		}
+		before := wholeRows(table)
+		for _, called := range callsOfTable(table) {
+			for _, result := range called.run() {
+				emptied(result)
+			}
+		}
+		wantSame(t, "the table", wholeRows(table), before)
+	}
+}
+
+// wholeRows returns a copy of rows and of all unused capacity.
+func wholeRows(rows [][]int64) [][]int64 {
+	rows = whole(rows)
+	for i, row := range rows {
+		rows[i] = whole(row)
+	}
+	return rows
+}
+
+// P1: maps stay as they are, and so does what lies behind their lists, also when
+// the results are overwritten.
+func TestMapsStayAsTheyAre(t *testing.T) {
+	for _, m := range anyMaps() {
+		m = spareMap(m)
+		before := wholeMap(m)
+		for _, called := range callsOfMap(m) {
+			for _, result := range called.run() {
+				emptied(result)
+			}
+		}
+		wantSame(t, "the map", wholeMap(m), before)
+	}
+}
+
+// spareMap returns m with unused capacity in all its lists.
+func spareMap(m impl.Map) impl.Map {
+	m.Tree.Devices = spare(m.Tree.Devices, impl.Device{Id: 7})
+	m.Tree.Buckets = spare(m.Tree.Buckets, impl.Bucket{Id: 7})
+	for i, b := range m.Tree.Buckets {
+		m.Tree.Buckets[i].Items = spare(b.Items, 7)
+	}
+	m.Rules, m.Pools = spare(m.Rules, impl.Rule{Id: 7}), spare(m.Pools, impl.Pool{Id: 7})
+	m.Up, m.Out = spare(m.Up, 7), spare(m.Out, 7)
+	return m
+}
+
+// wholeMap returns a copy of m and of the unused capacity of its lists.
+func wholeMap(m impl.Map) impl.Map {
+	m.Tree, m.Rules, m.Pools = wholeTree(m.Tree), whole(m.Rules), whole(m.Pools)
+	m.Up, m.Out = whole(m.Up), whole(m.Out)
+	return m
+}
+
+// P1: increments and chains stay as they are, and so does what lies behind them.
+func TestIncsAndChainsStayAsTheyAre(t *testing.T) {
+	steps := someWalk(source(12), firstMap())
+	list := spare(steps, impl.Inc{Epoch: 2, Kind: impl.IcTerm})
+	before := whole(list)
+	chain, _ := impl.PlayIncs(firstMap(), list)
+	maps := spare(chain, impl.Map{Epoch: 61})
+	for i, m := range maps {
+		maps[i] = spareMap(m)
+	}
+	kept := make([]impl.Map, len(maps))
+	for i, m := range maps {
+		kept[i] = wholeMap(m)
+	}
+	impl.ChainOk(maps)
+	for i, m := range maps {
+		wantSame(t, "a map of the chain", wholeMap(m), kept[i])
+	}
+	wantSame(t, "what lies behind the chain", maps[:cap(maps)][len(maps)], impl.Map{Epoch: 61})
+	wantSame(t, "the increments", whole(list), before)
+}
+
+// P1: neither the rows of a table nor the maps of a chain share memory, with
+// each other or with what they were made of.
+func TestRowsAndMapsAreTheirOwn(t *testing.T) {
+	rows, _ := impl.PlaceAll(sample(), hostRule(true), twoCopies(), nil, nil)
+	for i, row := range rows {
+		filled(row, 99)
+		rows[i] = []int64{0, 0}
+		for k, other := range rows[i+1:] {
+			wantNumbers(t, "another row", other, impl.OK, [][]int64{{2, 4}, {2, 0}, {4, 1}, {0, 3}}[i+1+k], impl.OK)
+		}
+	}
+	steps := someWalk(source(13), firstMap())
+	want := walked(firstMap(), steps)
+	first := firstMap()
+	chain, _ := impl.PlayIncs(first, steps)
+	emptied(first)
+	for i, m := range chain {
+		emptied(m)
+		for k, other := range chain[i+1:] {
+			wantMap(t, "another map", other, impl.OK, want[i+1+k], impl.OK)
+		}
+	}
+	for _, i := range incsFor(2) {
+		if want, code := applied(firstMap(), i); code == impl.OK {
+			before := firstMap()
+			next, code := impl.ApplyInc(before, i)
+			emptied(before)
+			wantMap(t, "ApplyInc", next, code, want, impl.OK)
+		}
+	}
 }
