@@ -119,6 +119,23 @@ func anyIncs() []impl.Inc {
 	return slices.Concat(wrongIncs()[:60], incsFor(2)[:30], incsFor(6)[:30])
 }
 
+func anyActings() [][]int64 {
+	return slices.Concat(rightActings()[:30], wrongActings(), anyRows())
+}
+
+func anyIntervals() [][]impl.Interval {
+	return append(rightIntervals(), wrongIntervals()...)
+}
+
+func anyChains() [][]impl.Map {
+	r := source(135)
+	list := [][]impl.Map{nil, {}, slices.Repeat([]impl.Map{firstMap()}, 70), busyWalk(r, firstMap(), 12), busyWalk(r, oneNode(), 60), busyWalk(r, someMap(), 3)}
+	for _, m := range anyMaps() {
+		list = append(list, []impl.Map{m}, []impl.Map{firstMap(), m})
+	}
+	return list
+}
+
 func number1(f func(int64) (int64, int64), n int64) func() []any {
 	return func() []any {
 		a, b := f(n)
@@ -560,8 +577,97 @@ func callsOfMap(m impl.Map) []call {
 	return list
 }
 
+func callsOfActings() []call {
+	var list []call
+	for _, acting := range anyActings() {
+		list = append(list, callsOfActing(acting)...)
+	}
+	for _, m := range anyMaps() {
+		list = append(list, callsOfActingIn(m)...)
+	}
+	return list
+}
+
+func callsOfActing(acting []int64) []call {
+	list := []call{
+		{"ActingOk", func() []any { return []any{impl.ActingOk(acting)} }},
+		{"TakenOf", func() []any { return []any{impl.TakenOf(acting)} }},
+		{"LeaderOf", func() []any { return []any{impl.LeaderOf(acting)} }},
+		{"MembersOf", func() []any { return []any{impl.MembersOf(acting)} }},
+	}
+	for _, n := range anyNumbers() {
+		list = append(list, call{"PlaceOf", func() []any { return []any{impl.PlaceOf(acting, n)} }})
+	}
+	for _, heard := range anyOuts() {
+		list = append(list, call{"HeardOf", func() []any { return []any{impl.HeardOf(impl.Interval{Acting: acting}, heard)} }})
+	}
+	return list
+}
+
+func callsOfActingIn(m impl.Map) []call {
+	var list []call
+	for _, n := range anyNumbers() {
+		list = append(list, call{"PgsAt", func() []any { return []any{impl.PgsAt(m, n)} }})
+		for _, g := range []impl.Pg{{Pool: n}, {Pool: 1, No: n}, {Pool: n, No: n}} {
+			list = append(list,
+				call{"ActingOf", func() []any { a, ok := impl.ActingOf(m, g); return []any{a, ok} }},
+				call{"MayServe", func() []any { return []any{impl.MayServe(m, g)} }})
+		}
+	}
+	return list
+}
+
+func callsOfIntervals() []call {
+	var list []call
+	for _, ivs := range anyIntervals() {
+		list = append(list, callsOfIntervalList(ivs)...)
+	}
+	for _, chain := range anyChains() {
+		list = append(list, callsOfChain(chain)...)
+	}
+	for _, heard := range anyOuts() {
+		list = append(list, callsOfHeard(heard)...)
+	}
+	return list
+}
+
+func callsOfIntervalList(ivs []impl.Interval) []call {
+	list := []call{
+		{"IntervalsOk", func() []any { return []any{impl.IntervalsOk(ivs)} }},
+		{"AskOf", func() []any { return []any{impl.AskOf(ivs)} }},
+	}
+	for _, n := range anyNumbers() {
+		list = append(list,
+			call{"IntervalAt", func() []any { a, ok := impl.IntervalAt(ivs, n); return []any{a, ok} }},
+			call{"AheadOf", func() []any { return []any{impl.AheadOf(ivs, n)} }},
+			call{"NeedOf", func() []any { return []any{impl.NeedOf(ivs, n)} }},
+			call{"HeardEnough", func() []any { return []any{impl.HeardEnough(ivs, n, 0, []int64{1, 2})} }},
+			call{"HeardEnough", func() []any { return []any{impl.HeardEnough(ivs, 1, n, []int64{1, 2})} }})
+	}
+	for _, v := range ivs {
+		list = append(list, call{"HeardOf", func() []any { return []any{impl.HeardOf(v, []int64{1, 2, 3})} }})
+	}
+	return list
+}
+
+func callsOfChain(chain []impl.Map) []call {
+	var list []call
+	for _, g := range []impl.Pg{{}, {Pool: 1}, {Pool: 3, No: 2}, {Pool: 1, No: math.MaxInt64}, {Pool: math.MinInt64}} {
+		list = append(list, call{"IntervalsOf", func() []any { a, ok := impl.IntervalsOf(chain, g); return []any{a, ok} }})
+	}
+	return list
+}
+
+func callsOfHeard(heard []int64) []call {
+	list := []call{{"HeardOf", func() []any { return []any{impl.HeardOf(interval(4, 6, true, 2, -1, 1), heard)} }}}
+	for _, s := range []int64{-1, 0, 3, 5} {
+		list = append(list, call{"HeardEnough", func() []any { return []any{impl.HeardEnough(sampleIntervals(), 1, s, heard)} }})
+	}
+	return list
+}
+
 func allCalls() []call {
-	return slices.Concat(callsOfBytes(), callsOfField(), callsOfMatrices(), callsOfShards(), callsOfStripes(), callsOfTrees(), callsOfStraws(), callsOfRules(), callsOfPools(), callsOfBalances(), callsOfMaps())
+	return slices.Concat(callsOfBytes(), callsOfField(), callsOfMatrices(), callsOfShards(), callsOfStripes(), callsOfTrees(), callsOfStraws(), callsOfRules(), callsOfPools(), callsOfBalances(), callsOfMaps(), callsOfActings(), callsOfIntervals())
 }
 
 // failed reports whether results end with an error code or with false. A
@@ -628,6 +734,13 @@ func emptied(result any) {
 			emptied(m)
 		}
 		filled(x, impl.Map{Epoch: 99})
+	case impl.Interval:
+		filled(x.Acting, 99)
+	case []impl.Interval:
+		for _, v := range x {
+			filled(v.Acting, 99)
+		}
+		filled(x, impl.Interval{First: 99})
 	}
 }
 
@@ -665,6 +778,11 @@ func deepCopy(results []any) []any {
 				x[k] = copiedMap(m)
 			}
 			list[i] = x
+		case impl.Interval:
+			x.Acting = slices.Clone(x.Acting)
+			list[i] = x
+		case []impl.Interval:
+			list[i] = copiedIntervals(x)
 		}
 	}
 	return list
@@ -986,7 +1104,7 @@ func TestMapsStayAsTheyAre(t *testing.T) {
 	for _, m := range anyMaps() {
 		m = spareMap(m)
 		before := wholeMap(m)
-		for _, called := range callsOfMap(m) {
+		for _, called := range slices.Concat(callsOfMap(m), callsOfActingIn(m)) {
 			for _, result := range called.run() {
 				emptied(result)
 			}
@@ -1066,4 +1184,110 @@ func TestRowsAndMapsAreTheirOwn(t *testing.T) {
 			wantMap(t, "ApplyInc", next, code, want, impl.OK)
 		}
 	}
+}
+
+// P1: acting sets stay as they are, and so does what lies behind them, also when
+// the results are overwritten.
+func TestActingsStayAsTheyAre(t *testing.T) {
+	for _, acting := range anyActings() {
+		list := spare(acting, 3)
+		before := whole(list)
+		for _, called := range callsOfActing(list) {
+			for _, result := range called.run() {
+				emptied(result)
+			}
+		}
+		wantSame(t, "the acting set", whole(list), before)
+	}
+}
+
+// P1: intervals and heard nodes stay as they are, and so does what lies behind
+// them, also when the results are overwritten.
+func TestIntervalsStayAsTheyAre(t *testing.T) {
+	for _, ivs := range anyIntervals() {
+		list := spare(copiedIntervals(ivs), interval(9, 9, true, 9))
+		for i, v := range ivs {
+			list[i].Acting = spare(v.Acting, 3)
+		}
+		before := wholeIntervals(list)
+		for _, called := range callsOfIntervalList(list) {
+			for _, result := range called.run() {
+				emptied(result)
+			}
+		}
+		wantSame(t, "the intervals", wholeIntervals(list), before)
+	}
+	for _, heard := range anyOuts() {
+		list := spare(heard, 3)
+		before := whole(list)
+		for _, called := range callsOfHeard(list) {
+			for _, result := range called.run() {
+				emptied(result)
+			}
+		}
+		wantSame(t, "the heard nodes", whole(list), before)
+	}
+}
+
+// wholeIntervals returns a copy of ivs and of all unused capacity.
+func wholeIntervals(ivs []impl.Interval) []impl.Interval {
+	ivs = whole(ivs)
+	for i, v := range ivs {
+		ivs[i].Acting = whole(v.Acting)
+	}
+	return ivs
+}
+
+// P1: chains stay as they are when intervals are made of them, and so does what
+// lies behind their lists.
+func TestChainsStayAsTheyAre(t *testing.T) {
+	for _, chain := range anyChains() {
+		maps := spare(chain, impl.Map{Epoch: 61})
+		for i, m := range maps {
+			maps[i] = spareMap(m)
+		}
+		before := wholeMaps(maps)
+		for _, called := range callsOfChain(maps) {
+			for _, result := range called.run() {
+				emptied(result)
+			}
+		}
+		wantSame(t, "the chain", wholeMaps(maps), before)
+	}
+}
+
+// wholeMaps returns a copy of a chain and of all unused capacity.
+func wholeMaps(chain []impl.Map) []impl.Map {
+	chain = whole(chain)
+	for i, m := range chain {
+		chain[i] = wholeMap(m)
+	}
+	return chain
+}
+
+// P1: no two intervals share memory, with each other or with what they were made
+// of.
+func TestIntervalsAreTheirOwn(t *testing.T) {
+	chain := busyWalk(source(136), oneNode(), 30)
+	made, _ := impl.IntervalsOf(chain, impl.Pg{Pool: 1})
+	same := []impl.Interval{interval(1, 2, true, 4, 5), interval(3, 3, true, 4, 5), interval(4, 9, true, 4, 5)}
+	for _, list := range [][]impl.Interval{made, impl.AheadOf(same, 9), impl.NeedOf(same, 1)} {
+		if len(list) < 3 {
+			t.Fatalf("only %d intervals", len(list))
+		}
+		want := copiedIntervals(list)
+		for i, v := range list {
+			emptied(v)
+			wantIntervals(t, "the others", list[i+1:], true, want[i+1:], true)
+		}
+	}
+	at, _ := impl.IntervalAt(same, 3)
+	for _, v := range same {
+		emptied(v)
+	}
+	wantInterval(t, "IntervalAt", at, true, interval(3, 3, true, 4, 5), true)
+	acting := []int64{2, -1, 1}
+	members := impl.MembersOf(acting)
+	emptied(acting)
+	wantNumbers(t, "MembersOf", members, 0, []int64{1, 2}, 0)
 }
