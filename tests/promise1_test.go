@@ -136,6 +136,24 @@ func anyChains() [][]impl.Map {
 	return list
 }
 
+func anyDisks() []impl.Disk {
+	return append(wrongDisks(), rightDisks()...)
+}
+
+func anyJournals() []impl.Journal {
+	return append(wrongJournals(), someJournals()[:60]...)
+}
+
+// anyWrites returns lists of what may be written to consecutive sectors.
+func anyWrites() [][]string {
+	return [][]string{nil, {}, {""}, {"short"}, fullOf('a'), fullOf('a', 'b'), {full('a'), "short"}, slices.Repeat(fullOf('m'), 601)}
+}
+
+// anyFrames returns lists of what may be frames of a journal.
+func anyFrames() [][]string {
+	return [][]string{nil, {}, {""}, {"a", "bc"}, {full('f') + full('g')}, slices.Repeat([]string{""}, 41), {strings.Repeat("l", 16000)}, {strings.Repeat("l", 16001)}}
+}
+
 func number1(f func(int64) (int64, int64), n int64) func() []any {
 	return func() []any {
 		a, b := f(n)
@@ -666,8 +684,111 @@ func callsOfHeard(heard []int64) []call {
 	return list
 }
 
+func callsOfDisks() []call {
+	var list []call
+	for _, d := range anyDisks() {
+		list = append(list, callsOfDisk(d)...)
+	}
+	for _, n := range anyNumbers() {
+		list = append(list, call{"NewDisk", func() []any { a, code := impl.NewDisk(n); return []any{a, code} }})
+	}
+	for _, keep := range anyRows() {
+		list = append(list, callsOfKeep(keep)...)
+	}
+	for _, writes := range anyWrites() {
+		list = append(list, callsOfWrites(writes)...)
+	}
+	return list
+}
+
+func callsOfDisk(d impl.Disk) []call {
+	list := []call{
+		{"DiskOk", func() []any { return []any{impl.DiskOk(d)} }},
+		{"FlushDisk", func() []any { return []any{impl.FlushDisk(d)} }},
+		{"WriteAll", func() []any { a, code := impl.WriteAll(d, 0, nil); return []any{a, code} }},
+		{"WriteAll", func() []any { a, code := impl.WriteAll(d, 0, fullOf('a', 'b')); return []any{a, code} }},
+		{"PowerLoss", func() []any { a, code := impl.PowerLoss(d, nil, 5); return []any{a, code} }},
+		{"PowerLoss", func() []any { a, code := impl.PowerLoss(d, []int64{0}, -1); return []any{a, code} }},
+		{"PowerLoss", func() []any { a, code := impl.PowerLoss(d, []int64{0, 1}, 5); return []any{a, code} }},
+		{"OpenJournal", func() []any { a, b, code := impl.OpenJournal(d); return []any{a, b, code} }},
+	}
+	for _, n := range anyNumbers() {
+		list = append(list,
+			call{"ReadSector", func() []any { a, code := impl.ReadSector(d, n); return []any{a, code} }},
+			call{"WriteSector", func() []any { a, code := impl.WriteSector(d, n, full('a')); return []any{a, code} }},
+			call{"WriteAll", func() []any { a, code := impl.WriteAll(d, n, fullOf('a', 'b')); return []any{a, code} }},
+			call{"PowerLoss", func() []any { a, code := impl.PowerLoss(d, []int64{n}, n); return []any{a, code} }},
+			call{"RotSector", func() []any { a, code := impl.RotSector(d, n, 63, 1); return []any{a, code} }},
+			call{"RotSector", func() []any { a, code := impl.RotSector(d, 0, n, n); return []any{a, code} }})
+	}
+	return list
+}
+
+// callsOfKeep returns calls that take a list of writes to be kept.
+func callsOfKeep(keep []int64) []call {
+	var list []call
+	for _, torn := range []int64{math.MinInt64, -1, 0, 5, 64, 65} {
+		list = append(list, call{"PowerLoss", func() []any { a, code := impl.PowerLoss(sampleDisk(), keep, torn); return []any{a, code} }})
+	}
+	return list
+}
+
+// callsOfWrites returns calls that take a list of sectors to be written.
+func callsOfWrites(writes []string) []call {
+	var list []call
+	for _, n := range anyNumbers() {
+		list = append(list, call{"WriteAll", func() []any { a, code := impl.WriteAll(sampleDisk(), n, writes); return []any{a, code} }})
+	}
+	return list
+}
+
+func callsOfJournals() []call {
+	var list []call
+	for _, j := range anyJournals() {
+		list = append(list, callsOfJournal(j)...)
+	}
+	for _, d := range someDisks() {
+		list = append(list, call{"OpenJournal", func() []any { a, b, code := impl.OpenJournal(d); return []any{a, b, code} }})
+	}
+	for _, n := range anyNumbers() {
+		list = append(list, call{"NewJournal", func() []any { a, code := impl.NewJournal(n); return []any{a, code} }})
+	}
+	for _, m := range anyNumbers() {
+		for _, bytes := range anyTexts() {
+			list = append(list, call{"PutCell", func() []any {
+				return []any{impl.PutCell(part(m, 1, true, bytes)), impl.PutCell(part(1, m, false, bytes))}
+			}})
+		}
+	}
+	for _, sector := range append(anyTexts(), full(0), formatOf(part(1, 2, true, "abc")), rawCell(1, 2, 1, 255, 0, 0, "abc")) {
+		list = append(list, call{"GetCell", func() []any { a, ok := impl.GetCell(sector); return []any{a, ok} }})
+	}
+	return list
+}
+
+func callsOfJournal(j impl.Journal) []call {
+	list := []call{
+		{"JournalOk", func() []any { return []any{impl.JournalOk(j)} }},
+		{"OpenJournal", func() []any { a, b, code := impl.OpenJournal(j.Disk); return []any{a, b, code} }},
+		{"StageJournal", func() []any { a, code := impl.StageJournal(j); return []any{a, code} }},
+		{"SyncJournal", func() []any { a, code := impl.SyncJournal(j); return []any{a, code} }},
+	}
+	for _, frames := range anyFrames() {
+		list = append(list, callsOfFrames(j, frames)...)
+	}
+	return list
+}
+
+// callsOfFrames returns calls that take a list of frames.
+func callsOfFrames(j impl.Journal, frames []string) []call {
+	return []call{
+		{"AddFrames", func() []any { a, code := impl.AddFrames(j, frames); return []any{a, code} }},
+		{"Compact", func() []any { a, code := impl.Compact(j, frames); return []any{a, code} }},
+	}
+}
+
 func allCalls() []call {
-	return slices.Concat(callsOfBytes(), callsOfField(), callsOfMatrices(), callsOfShards(), callsOfStripes(), callsOfTrees(), callsOfStraws(), callsOfRules(), callsOfPools(), callsOfBalances(), callsOfMaps(), callsOfActings(), callsOfIntervals())
+	return slices.Concat(callsOfBytes(), callsOfField(), callsOfMatrices(), callsOfShards(), callsOfStripes(), callsOfTrees(), callsOfStraws(), callsOfRules(), callsOfPools(), callsOfBalances(), callsOfMaps(), callsOfActings(), callsOfIntervals(), callsOfDisks(), callsOfJournals())
 }
 
 // failed reports whether results end with an error code or with false. A
@@ -741,6 +862,12 @@ func emptied(result any) {
 			filled(v.Acting, 99)
 		}
 		filled(x, impl.Interval{First: 99})
+	case impl.Disk:
+		filled(x.Sectors, "spoilt")
+		filled(x.Waits, write(99, "spoilt"))
+	case impl.Journal:
+		emptied(x.Disk)
+		filled(x.Frames, "spoilt")
 	}
 }
 
@@ -783,6 +910,10 @@ func deepCopy(results []any) []any {
 			list[i] = x
 		case []impl.Interval:
 			list[i] = copiedIntervals(x)
+		case impl.Disk:
+			list[i] = copiedDisk(x)
+		case impl.Journal:
+			list[i] = copiedJournal(x)
 		}
 	}
 	return list
@@ -1290,4 +1421,116 @@ func TestIntervalsAreTheirOwn(t *testing.T) {
 	members := impl.MembersOf(acting)
 	emptied(acting)
 	wantNumbers(t, "MembersOf", members, 0, []int64{1, 2}, 0)
+}
+
+// spareDisk returns d with unused capacity in its lists.
+func spareDisk(d impl.Disk) impl.Disk {
+	return impl.Disk{Sectors: spare(d.Sectors, "behind"), Waits: spare(d.Waits, write(0, "behind"))}
+}
+
+// wholeDisk returns a copy of d and of the unused capacity of its lists.
+func wholeDisk(d impl.Disk) impl.Disk {
+	return impl.Disk{Sectors: whole(d.Sectors), Waits: whole(d.Waits)}
+}
+
+// P1: disks stay as they are, and so does what lies behind their lists, also when
+// the results are overwritten.
+func TestDisksStayAsTheyAre(t *testing.T) {
+	for _, d := range slices.Concat(anyDisks(), someDisks()) {
+		d = spareDisk(d)
+		before := wholeDisk(d)
+		for _, called := range callsOfDisk(d) {
+			for _, result := range called.run() {
+				emptied(result)
+			}
+		}
+		wantSame(t, "the disk", wholeDisk(d), before)
+	}
+	for _, keep := range append(anyRows(), []int64{0, 2}, []int64{0, 1, 2}) {
+		list := spare(keep, 1)
+		before := whole(list)
+		for _, called := range callsOfKeep(list) {
+			for _, result := range called.run() {
+				emptied(result)
+			}
+		}
+		wantSame(t, "the writes that are kept", whole(list), before)
+	}
+	for _, writes := range anyWrites() {
+		list := spare(writes, "behind")
+		before := whole(list)
+		for _, called := range callsOfWrites(list) {
+			for _, result := range called.run() {
+				emptied(result)
+			}
+		}
+		wantSame(t, "what is written", whole(list), before)
+	}
+}
+
+// P1: journals and frames stay as they are, and so does what lies behind their
+// lists, also when the results are overwritten.
+func TestJournalsStayAsTheyAre(t *testing.T) {
+	for _, j := range anyJournals() {
+		j.Disk, j.Frames = spareDisk(j.Disk), spare(j.Frames, "behind")
+		disk, frames := wholeDisk(j.Disk), whole(j.Frames)
+		for _, called := range callsOfJournal(j) {
+			for _, result := range called.run() {
+				emptied(result)
+			}
+		}
+		wantSame(t, "the disk", wholeDisk(j.Disk), disk)
+		wantSame(t, "the frames that wait", whole(j.Frames), frames)
+	}
+	for _, frames := range anyFrames() {
+		list := spare(frames, "behind")
+		before := whole(list)
+		for _, j := range someJournals()[:20] {
+			for _, called := range callsOfFrames(j, list) {
+				for _, result := range called.run() {
+					emptied(result)
+				}
+			}
+		}
+		wantSame(t, "the frames", whole(list), before)
+	}
+}
+
+// P1: disks and journals do not share memory with what they were made of, nor
+// with each other.
+func TestDisksAndJournalsAreTheirOwn(t *testing.T) {
+	d, list := sampleDisk(), fullOf('p', 'q')
+	flushed := impl.FlushDisk(d)
+	written, _ := impl.WriteAll(d, 1, list)
+	unwritten, _ := impl.WriteAll(d, 1, nil)
+	lost, _ := impl.PowerLoss(d, nil, -1)
+	rotten, _ := impl.RotSector(d, 0, 0, 1)
+	emptied(d)
+	emptied(list)
+	want, _ := bufferedIn(sampleDisk(), 1, fullOf('p', 'q')...)
+	wantDisk(t, "WriteAll", written, impl.OK, want, impl.OK)
+	wantDisk(t, "WriteAll of nothing", unwritten, impl.OK, sampleDisk(), impl.OK)
+	wantDisk(t, "FlushDisk", flushed, impl.OK, flushedFrom(sampleDisk()), impl.OK)
+	wantDisk(t, "PowerLoss", lost, impl.OK, disk(sampleDisk().Sectors), impl.OK)
+	want, _ = rottenFrom(sampleDisk(), 0, 0, 1)
+	wantDisk(t, "RotSector", rotten, impl.OK, want, impl.OK)
+
+	made := laid(16, 1, 0, slices.Concat(partsOf(1, 1, "hello", ""), partsOf(1, 3, full('a')))...)
+	opened, frames, _ := impl.OpenJournal(made)
+	more := []string{"more"}
+	longer, _ := impl.AddFrames(opened, more)
+	synced, _ := impl.SyncJournal(longer)
+	unsynced, _ := impl.SyncJournal(opened)
+	staged, _ := impl.StageJournal(opened)
+	kept := copiedJournal(opened)
+	for _, x := range []any{made, frames, opened, more} {
+		emptied(x)
+	}
+	wantJournal(t, "SyncJournal of nothing", unsynced, impl.OK, kept, impl.OK)
+	wantDisk(t, "StageJournal of nothing", staged, impl.OK, kept.Disk, impl.OK)
+	kept.Frames = []string{"more"}
+	wantJournal(t, "AddFrames", longer, impl.OK, kept, impl.OK)
+	emptied(longer)
+	after, _ := syncedFrom(kept)
+	wantJournal(t, "SyncJournal", synced, impl.OK, after, impl.OK)
 }
