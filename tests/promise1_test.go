@@ -154,6 +154,34 @@ func anyFrames() [][]string {
 	return [][]string{nil, {}, {""}, {"a", "bc"}, {full('f') + full('g')}, slices.Repeat([]string{""}, 41), {strings.Repeat("l", 16000)}, {strings.Repeat("l", 16001)}}
 }
 
+func anyOps() []impl.Op {
+	return append(wrongOps(), rightOps()...)
+}
+
+// anyOpLists returns lists of operations, some of them too long or with one that
+// is not valid.
+func anyOpLists() [][]impl.Op {
+	r := source(164)
+	list := [][]impl.Op{nil, {}, someOps(r, 3), someOps(r, 24), someOps(r, 25), append(someOps(r, 2), impl.Op{}), someOps(r, 1000)}
+	for _, o := range anyOps() {
+		list = append(list, []impl.Op{o}, []impl.Op{op(impl.OpFull, 0, "ab"), o})
+	}
+	return list
+}
+
+func anyStates() []impl.PgState {
+	list := wrongStates()
+	return slices.Concat(rightStates()[:40], tooFullStates()[:9], list[len(list)-400:])
+}
+
+func anyVers() []impl.Ver {
+	list := []impl.Ver{ver(2, 3), ver(4, 2), ver(60, 1000)}
+	for _, n := range anyNumbers() {
+		list = append(list, ver(n, n), ver(4, n))
+	}
+	return list
+}
+
 func number1(f func(int64) (int64, int64), n int64) func() []any {
 	return func() []any {
 		a, b := f(n)
@@ -787,8 +815,105 @@ func callsOfFrames(j impl.Journal, frames []string) []call {
 	}
 }
 
+func callsOfOps() []call {
+	var list []call
+	for _, c := range anyCodes() {
+		for _, o := range anyOps() {
+			list = append(list, call{"OpOk", func() []any { return []any{impl.OpOk(c, o)} }})
+		}
+	}
+	for _, o := range anyOps() {
+		list = append(list,
+			call{"Reads", func() []any { return []any{impl.Reads(o)} }},
+			call{"PutOp", func() []any { return []any{impl.PutOp(o)} }})
+		for _, body := range anyTexts() {
+			list = append(list, call{"ApplyOp", func() []any { a, ok := impl.ApplyOp(body, true, o); return []any{a, ok} }})
+		}
+	}
+	for _, ops := range anyOpLists() {
+		list = append(list, callsOfOpList(ops)...)
+	}
+	for _, s := range append(anyTexts(), "\x02\x00\x02ab", "\x03\x01\x00", "\x01\x00\x00") {
+		list = append(list,
+			call{"GetOp", func() []any { a, b, ok := impl.GetOp(s); return []any{a, b, ok} }},
+			call{"GetPgState", func() []any { a, b, ok := impl.GetPgState(s); return []any{a, b, ok} }})
+	}
+	return list
+}
+
+func callsOfOpList(ops []impl.Op) []call {
+	var list []call
+	for _, body := range []string{"", "abc", strings.Repeat("a", 65)} {
+		for _, there := range []bool{true, false} {
+			list = append(list, call{"ApplyOps", func() []any { a, ok := impl.ApplyOps(body, there, ops); return []any{a, ok} }})
+		}
+	}
+	return list
+}
+
+func callsOfLogs() []call {
+	var list []call
+	for _, s := range anyStates() {
+		list = append(list, callsOfState(s)...)
+	}
+	for _, v := range anyVers() {
+		list = append(list,
+			call{"VerLess", func() []any { return []any{impl.VerLess(v, ver(2, 4))} }},
+			call{"VerLess", func() []any { return []any{impl.VerLess(ver(2, 4), v)} }})
+	}
+	for _, e := range someEntries() {
+		list = append(list, call{"EntryOk", func() []any { return []any{impl.EntryOk(e)} }})
+	}
+	for _, c := range manyChunks() {
+		list = append(list,
+			call{"ChunkOk", func() []any { return []any{impl.ChunkOk(c)} }},
+			call{"SoundChunk", func() []any { return []any{impl.SoundChunk(c)} }})
+	}
+	for _, m := range anyNumbers() {
+		for _, n := range anyNumbers() {
+			list = append(list, call{"NewState", func() []any { return []any{impl.NewState(impl.Pg{Pool: m, No: n})} }})
+		}
+	}
+	return list
+}
+
+func callsOfState(s impl.PgState) []call {
+	list := []call{
+		{"StateOk", func() []any { return []any{impl.StateOk(s)} }},
+		{"LastOf", func() []any { return []any{impl.LastOf(s)} }},
+		{"TrimLog", func() []any { return []any{impl.TrimLog(s)} }},
+		{"NoticeOf", func() []any { return []any{impl.NoticeOf(s)} }},
+		{"TakeLog", func() []any { return []any{impl.TakeLog(s, sampleState())} }},
+		{"TakeLog", func() []any { return []any{impl.TakeLog(sampleState(), s)} }},
+		{"TakeLog", func() []any { return []any{impl.TakeLog(s, s)} }},
+		{"PutPgState", func() []any { return []any{impl.PutPgState(s)} }},
+		{"GetPgState", func() []any { a, b, ok := impl.GetPgState(impl.PutPgState(s) + "!"); return []any{a, b, ok} }},
+	}
+	for _, v := range append(anyVers(), s.Tail, impl.LastOf(s)) {
+		list = append(list,
+			call{"HeadsAt", func() []any { a, code := impl.HeadsAt(s, v); return []any{a, code} }},
+			call{"ClientsAt", func() []any { a, code := impl.ClientsAt(s, v); return []any{a, code} }},
+			call{"CutLog", func() []any { a, code := impl.CutLog(s, v); return []any{a, code} }},
+			call{"LacksAt", func() []any { a, code := impl.LacksAt(s, v, v.Epoch); return []any{a, code} }},
+			call{"ChunkOf", func() []any { a, ok := impl.ChunkOf(s, "a", v, v.Seq); return []any{a, ok} }})
+	}
+	for _, n := range anyNumbers() {
+		list = append(list,
+			call{"DropChunks", func() []any { return []any{impl.DropChunks(s, n)} }},
+			call{"ChunkOf", func() []any { a, ok := impl.ChunkOf(s, "a", ver(1, 2), n); return []any{a, ok} }})
+	}
+	for _, name := range []string{"", "a", "b", "longname", "longname9", "\xff"} {
+		e := impl.Entry{Ver: ver(60, 1000), Prior: impl.LastOf(s), Name: name}
+		list = append(list,
+			call{"AddEntry", func() []any { a, code := impl.AddEntry(s, e); return []any{a, code} }},
+			call{"PutChunk", func() []any { a, code := impl.PutChunk(s, chunk(name, ver(1, 2), 1, "new")); return []any{a, code} }},
+			call{"PutChunk", func() []any { a, code := impl.PutChunk(s, chunk(name, ver(1, 2), 7, "new")); return []any{a, code} }})
+	}
+	return list
+}
+
 func allCalls() []call {
-	return slices.Concat(callsOfBytes(), callsOfField(), callsOfMatrices(), callsOfShards(), callsOfStripes(), callsOfTrees(), callsOfStraws(), callsOfRules(), callsOfPools(), callsOfBalances(), callsOfMaps(), callsOfActings(), callsOfIntervals(), callsOfDisks(), callsOfJournals())
+	return slices.Concat(callsOfBytes(), callsOfField(), callsOfMatrices(), callsOfShards(), callsOfStripes(), callsOfTrees(), callsOfStraws(), callsOfRules(), callsOfPools(), callsOfBalances(), callsOfMaps(), callsOfActings(), callsOfIntervals(), callsOfDisks(), callsOfJournals(), callsOfOps(), callsOfLogs())
 }
 
 // failed reports whether results end with an error code or with false. A
@@ -868,6 +993,17 @@ func emptied(result any) {
 	case impl.Journal:
 		emptied(x.Disk)
 		filled(x.Frames, "spoilt")
+	case []impl.Op:
+		filled(x, op(99, 99, "spoilt"))
+	case []impl.Head:
+		filled(x, head("spoilt", ver(99, 99), 99, 99))
+	case []impl.Last:
+		filled(x, last(99, 99, ver(99, 99)))
+	case impl.PgState:
+		emptied(x.Base)
+		emptied(x.Clients)
+		filled(x.Log, impl.Entry{Name: "spoilt"})
+		filled(x.Chunks, impl.Chunk{Name: "spoilt"})
 	}
 }
 
@@ -914,6 +1050,12 @@ func deepCopy(results []any) []any {
 			list[i] = copiedDisk(x)
 		case impl.Journal:
 			list[i] = copiedJournal(x)
+		case []impl.Head:
+			list[i] = slices.Clone(x)
+		case []impl.Last:
+			list[i] = slices.Clone(x)
+		case impl.PgState:
+			list[i] = copiedState(x)
 		}
 	}
 	return list
@@ -1533,4 +1675,86 @@ func TestDisksAndJournalsAreTheirOwn(t *testing.T) {
 	emptied(longer)
 	after, _ := syncedFrom(kept)
 	wantJournal(t, "SyncJournal", synced, impl.OK, after, impl.OK)
+}
+
+// P1: lists of operations stay as they are, and so does what lies behind them.
+func TestOpsStayAsTheyAre(t *testing.T) {
+	for _, ops := range anyOpLists() {
+		list := spare(ops, op(impl.OpDelete, 0, ""))
+		before := whole(list)
+		for _, called := range callsOfOpList(list) {
+			called.run()
+		}
+		wantSame(t, "the operations", whole(list), before)
+	}
+}
+
+// spareState returns s with unused capacity in all its lists.
+func spareState(s impl.PgState) impl.PgState {
+	s.Base, s.Clients = spare(s.Base, head("behind", ver(7, 7), 7, 7)), spare(s.Clients, last(107, 7, ver(7, 7)))
+	s.Log, s.Chunks = spare(s.Log, impl.Entry{Name: "behind"}), spare(s.Chunks, impl.Chunk{Name: "behind"})
+	return s
+}
+
+// wholeState returns a copy of s and of the unused capacity of its lists.
+func wholeState(s impl.PgState) impl.PgState {
+	s.Base, s.Clients, s.Log, s.Chunks = whole(s.Base), whole(s.Clients), whole(s.Log), whole(s.Chunks)
+	return s
+}
+
+// P1: states stay as they are, and so does what lies behind their lists, also
+// when the results are overwritten.
+func TestStatesStayAsTheyAre(t *testing.T) {
+	for _, s := range anyStates() {
+		s = spareState(s)
+		before := wholeState(s)
+		for _, called := range callsOfState(s) {
+			for _, result := range called.run() {
+				emptied(result)
+			}
+		}
+		wantSame(t, "the state", wholeState(s), before)
+	}
+}
+
+// P1: a state does not share memory with what it was made of.
+func TestStatesAreTheirOwn(t *testing.T) {
+	e := impl.Entry{Ver: ver(5, 1), Prior: ver(4, 3), Name: "a"}
+	for _, x := range []struct {
+		name string
+		make func(s impl.PgState) impl.PgState
+	}{
+		{"CutLog", func(s impl.PgState) impl.PgState { cut, _ := impl.CutLog(s, ver(4, 1)); return cut }},
+		{"CutLog of nothing", func(s impl.PgState) impl.PgState { cut, _ := impl.CutLog(s, ver(4, 3)); return cut }},
+		{"AddEntry", func(s impl.PgState) impl.PgState { added, _ := impl.AddEntry(s, e); return added }},
+		{"TrimLog", impl.TrimLog},
+		{"PutChunk", func(s impl.PgState) impl.PgState {
+			put, _ := impl.PutChunk(s, chunk("e", ver(1, 1), 0, ""))
+			return put
+		}},
+		{"PutChunk again", func(s impl.PgState) impl.PgState { put, _ := impl.PutChunk(s, s.Chunks[1]); return put }},
+		{"DropChunks", func(s impl.PgState) impl.PgState { return impl.DropChunks(s, 0) }},
+		{"NoticeOf", impl.NoticeOf},
+		{"TakeLog", func(s impl.PgState) impl.PgState { return impl.TakeLog(s, sampleState()) }},
+		{"TakeLog of it", func(s impl.PgState) impl.PgState { return impl.TakeLog(sampleState(), s) }},
+		{"TakeLog of its own", func(s impl.PgState) impl.PgState { return impl.TakeLog(s, s) }},
+	} {
+		s := spareState(sampleState())
+		want := copiedState(x.make(s))
+		got := x.make(s)
+		emptied(s)
+		wantState(t, x.name, got, 0, want, 0)
+		emptied(got)
+		wantState(t, x.name+" of another", x.make(sampleState()), 0, want, 0)
+	}
+	s := sampleState()
+	heads, _ := impl.HeadsAt(s, s.Tail)
+	lasts, _ := impl.ClientsAt(s, s.Tail)
+	lacks, _ := impl.LacksAt(s, s.Tail, 9)
+	emptied(s)
+	wantList(t, "HeadsAt", heads, 0, sampleState().Base, 0)
+	wantList(t, "ClientsAt", lasts, 0, sampleState().Clients, 0)
+	wantList(t, "LacksAt", lacks, 0, sampleState().Base, 0)
+	emptied(heads)
+	wantList(t, "LacksAt beside HeadsAt", lacks, 0, sampleState().Base, 0)
 }
