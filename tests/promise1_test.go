@@ -182,6 +182,23 @@ func anyVers() []impl.Ver {
 	return list
 }
 
+// anyStores returns stores of which most are not valid.
+func anyStores() []impl.Store {
+	list := slices.Concat(wrongStores(), rightStores()[:24])
+	for _, x := range anyStates()[:40] {
+		list = append(list, impl.Store{Live: []impl.PgState{x}}, impl.Store{Live: []impl.PgState{sampleState()}, Kept: []impl.PgState{x}})
+	}
+	return list
+}
+
+func anyPgs() []impl.Pg {
+	var list []impl.Pg
+	for _, n := range anyNumbers() {
+		list = append(list, pg(n, n), pg(n, 3), pg(1, n))
+	}
+	return list
+}
+
 func number1(f func(int64) (int64, int64), n int64) func() []any {
 	return func() []any {
 		a, b := f(n)
@@ -800,9 +817,13 @@ func callsOfJournal(j impl.Journal) []call {
 		{"OpenJournal", func() []any { a, b, code := impl.OpenJournal(j.Disk); return []any{a, b, code} }},
 		{"StageJournal", func() []any { a, code := impl.StageJournal(j); return []any{a, code} }},
 		{"SyncJournal", func() []any { a, code := impl.SyncJournal(j); return []any{a, code} }},
+		{"OpenStore", func() []any { a, code := impl.OpenStore(j); return []any{a, code} }},
 	}
 	for _, frames := range anyFrames() {
 		list = append(list, callsOfFrames(j, frames)...)
+	}
+	for _, s := range []impl.Store{{}, sampleStore(), impl.FlushStore(sampleStore()), wrongStores()[0]} {
+		list = append(list, call{"SaveStore", func() []any { a, code := impl.SaveStore(j, s); return []any{a, code} }})
 	}
 	return list
 }
@@ -912,8 +933,55 @@ func callsOfState(s impl.PgState) []call {
 	return list
 }
 
+func callsOfStores() []call {
+	var list []call
+	for _, s := range anyStores() {
+		list = append(list, callsOfStore(s)...)
+	}
+	for _, frames := range [][]string{{}, {formOfState(sampleState())}, formsOf(sampleStore().Live, nil), {formOfState(sampleState()), "junk"}} {
+		j := journalOf(laid(60, 1, 0, partsOf(1, 1, frames...)...), "waits")
+		list = append(list, call{"OpenStore", func() []any { a, code := impl.OpenStore(j); return []any{a, code} }})
+	}
+	return list
+}
+
+func callsOfStore(s impl.Store) []call {
+	list := []call{
+		{"StoreOk", func() []any { return []any{impl.StoreOk(s)} }},
+		{"SameStore", func() []any { return []any{impl.SameStore(s, sampleStore())} }},
+		{"SameStore", func() []any { return []any{impl.SameStore(sampleStore(), s)} }},
+		{"SameStore", func() []any { return []any{impl.SameStore(s, s)} }},
+		{"FlushStore", func() []any { return []any{impl.FlushStore(s)} }},
+		{"CrashStore", func() []any { return []any{impl.CrashStore(s)} }},
+	}
+	for _, g := range anyPgs() {
+		list = append(list, call{"StateIn", func() []any { return []any{impl.StateIn(s, g)} }})
+	}
+	for _, x := range slices.Concat(s.Live, s.Kept, []impl.PgState{sampleState(), fullState(), impl.NewState(pg(4, 3)), {}, {Pg: pg(5, 0)}, {Pg: pg(1, 0), Started: 1}}) {
+		list = append(list,
+			call{"StateIn", func() []any { return []any{impl.StateIn(s, x.Pg)} }},
+			call{"PutIn", func() []any { a, code := impl.PutIn(s, x); return []any{a, code} }})
+	}
+	for _, n := range anyNumbers() {
+		list = append(list, callsOfRot(s, ver(1, 2), 0, n, 1), callsOfRot(s, ver(1, 2), 0, 0, n), callsOfRot(s, ver(1, 2), n, 0, 1), callsOfRot(s, ver(n, n), 0, 0, 1))
+	}
+	for _, j := range []impl.Journal{{}, {Gen: 1}, journalOf(laid(8, 1, 0)), journalOf(laid(60, 2, 1, partsOf(2, 1, "a")...), "waits"), journalOf(laid(1200, 1, 0), slices.Repeat([]string{""}, 40)...)} {
+		list = append(list, call{"SaveStore", func() []any { a, code := impl.SaveStore(j, s); return []any{a, code} }})
+	}
+	return list
+}
+
+// callsOfRot tells first whether a byte rotted, since the store beside false need
+// not be zero.
+func callsOfRot(s impl.Store, v impl.Ver, pos, at, by int64) call {
+	return call{"RotIn", func() []any {
+		a, ok := impl.RotIn(s, sampleState().Pg, "a", v, pos, at, by)
+		return []any{ok, a}
+	}}
+}
+
 func allCalls() []call {
-	return slices.Concat(callsOfBytes(), callsOfField(), callsOfMatrices(), callsOfShards(), callsOfStripes(), callsOfTrees(), callsOfStraws(), callsOfRules(), callsOfPools(), callsOfBalances(), callsOfMaps(), callsOfActings(), callsOfIntervals(), callsOfDisks(), callsOfJournals(), callsOfOps(), callsOfLogs())
+	return slices.Concat(callsOfBytes(), callsOfField(), callsOfMatrices(), callsOfShards(), callsOfStripes(), callsOfTrees(), callsOfStraws(), callsOfRules(), callsOfPools(), callsOfBalances(), callsOfMaps(), callsOfActings(), callsOfIntervals(), callsOfDisks(), callsOfJournals(), callsOfOps(), callsOfLogs(), callsOfStores())
 }
 
 // failed reports whether results end with an error code or with false. A
@@ -1004,6 +1072,14 @@ func emptied(result any) {
 		emptied(x.Clients)
 		filled(x.Log, impl.Entry{Name: "spoilt"})
 		filled(x.Chunks, impl.Chunk{Name: "spoilt"})
+	case []impl.PgState:
+		for _, s := range x {
+			emptied(s)
+		}
+		filled(x, impl.PgState{Seen: 99})
+	case impl.Store:
+		emptied(x.Live)
+		emptied(x.Kept)
 	}
 }
 
@@ -1056,6 +1132,8 @@ func deepCopy(results []any) []any {
 			list[i] = slices.Clone(x)
 		case impl.PgState:
 			list[i] = copiedState(x)
+		case impl.Store:
+			list[i] = copiedStore(x)
 		}
 	}
 	return list
@@ -1757,4 +1835,115 @@ func TestStatesAreTheirOwn(t *testing.T) {
 	wantList(t, "LacksAt", lacks, 0, sampleState().Base, 0)
 	emptied(heads)
 	wantList(t, "LacksAt beside HeadsAt", lacks, 0, sampleState().Base, 0)
+}
+
+// spareStates returns states with unused capacity in all their lists, and behind
+// them.
+func spareStates(list []impl.PgState) []impl.PgState {
+	list = spare(list, impl.PgState{Seen: 7})
+	for i, x := range list {
+		list[i] = spareState(x)
+	}
+	return list
+}
+
+// wholeStates returns a copy of states and of all unused capacity.
+func wholeStates(list []impl.PgState) []impl.PgState {
+	list = whole(list)
+	for i, x := range list {
+		list[i] = wholeState(x)
+	}
+	return list
+}
+
+// P1: stores and journals stay as they are, and so does what lies behind their
+// lists, also when the results are overwritten.
+func TestStoresStayAsTheyAre(t *testing.T) {
+	for _, s := range anyStores() {
+		s = impl.Store{Live: spareStates(s.Live), Kept: spareStates(s.Kept)}
+		live, kept := wholeStates(s.Live), wholeStates(s.Kept)
+		for _, called := range callsOfStore(s) {
+			for _, result := range called.run() {
+				emptied(result)
+			}
+		}
+		wantSame(t, "the live states", wholeStates(s.Live), live)
+		wantSame(t, "the kept states", wholeStates(s.Kept), kept)
+	}
+	for _, x := range rightStates()[:30] {
+		x = spareState(x)
+		before := wholeState(x)
+		for _, s := range []impl.Store{{}, sampleStore(), {Live: []impl.PgState{{Pg: x.Pg}}}} {
+			put, _ := impl.PutIn(s, x)
+			emptied(put)
+		}
+		wantSame(t, "the state that was put", wholeState(x), before)
+	}
+}
+
+// P1: no store shares memory with what it was made of, nor its live states with
+// those that are kept.
+func TestStoresAreTheirOwn(t *testing.T) {
+	place := sampleState().Pg
+	added := smallState(source(200), pg(2, 4))
+	for _, x := range []struct {
+		name string
+		make func(s impl.Store, x impl.PgState) impl.Store
+	}{
+		{"FlushStore", func(s impl.Store, _ impl.PgState) impl.Store { return impl.FlushStore(s) }},
+		{"CrashStore", func(s impl.Store, _ impl.PgState) impl.Store { return impl.CrashStore(s) }},
+		{"PutIn", func(s impl.Store, x impl.PgState) impl.Store { put, _ := impl.PutIn(s, x); return put }},
+		{"PutIn again", func(s impl.Store, _ impl.PgState) impl.Store { put, _ := impl.PutIn(s, s.Live[1]); return put }},
+		{"PutIn of what is kept", func(s impl.Store, _ impl.PgState) impl.Store { put, _ := impl.PutIn(s, s.Kept[2]); return put }},
+		{"RotIn", func(s impl.Store, _ impl.PgState) impl.Store {
+			rotten, _ := impl.RotIn(s, place, "a", ver(1, 2), 0, 0, 1)
+			return rotten
+		}},
+		{"RotIn of nothing", func(s impl.Store, _ impl.PgState) impl.Store {
+			same, _ := impl.RotIn(s, place, "a", ver(1, 2), 0, 0, 0)
+			return same
+		}},
+	} {
+		want := copiedStore(x.make(sampleStore(), copiedState(added)))
+		s, put := sampleStore(), spareState(added)
+		s.Live, s.Kept = spareStates(s.Live), spareStates(s.Kept)
+		got := x.make(s, put)
+		emptied(s)
+		emptied(put)
+		wantStore(t, x.name, got, 0, want, 0)
+		wantSame(t, x.name+" has states of its own", isEachItsOwn(got, want), true)
+	}
+	s := sampleStore()
+	x := impl.StateIn(s, place)
+	emptied(s)
+	wantState(t, "StateIn", x, 0, sampleState(), 0)
+	opened, _ := impl.OpenStore(journalOf(laid(60, 1, 0, partsOf(1, 1, formsOf(sampleStore().Live, nil)...)...)))
+	wantSame(t, "OpenStore has states of its own", isEachItsOwn(opened, impl.FlushStore(sampleStore())), true)
+}
+
+// isEachItsOwn forgets the states of a store one by one, and reports whether the
+// others stay what they should be.
+func isEachItsOwn(s, want impl.Store) bool {
+	for i, x := range s.Live {
+		emptied(x)
+		s.Live[i], want.Live[i] = impl.PgState{}, impl.PgState{}
+		if !sameStore(s, want) {
+			return false
+		}
+	}
+	emptied(s.Live)
+	return slices.EqualFunc(s.Kept, want.Kept, sameState)
+}
+
+// P1: what is saved does not share memory with the journal it was saved to.
+func TestSavedJournalsAreTheirOwn(t *testing.T) {
+	for _, s := range []impl.Store{{}, sampleStore(), {Live: sampleStore().Live}} {
+		for _, waits := range [][]string{nil, {"waits"}, slices.Repeat([]string{"waits"}, 40)} {
+			j := journalOf(laid(60, 1, 0, partsOf(1, 1, "old")...), waits...)
+			want, _, _ := savedFrom(copiedJournal(j), s)
+			got, code := impl.SaveStore(j, s)
+			emptied(j)
+			wantJournal(t, "SaveStore", got, code, want, impl.OK)
+		}
+	}
 }
