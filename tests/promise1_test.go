@@ -191,6 +191,31 @@ func anyStores() []impl.Store {
 	return list
 }
 
+// anyMsgs returns messages of which most are not valid.
+func anyMsgs() []impl.Msg {
+	list := sampleMsgs()
+	for i, m := range changedMsgs() {
+		if i%29 == 0 {
+			list = append(list, m)
+		}
+	}
+	for _, s := range anyStates()[:60] {
+		m := msgAt(impl.MsNotice, 1, 2, s.Pg, s.Seen)
+		m.State = s
+		list = append(list, m)
+	}
+	return list
+}
+
+// anyNets returns nets of which most are not valid.
+func anyNets() []impl.Net {
+	list := slices.Concat(wrongNets(), rightNets())
+	for _, m := range anyMsgs()[:40] {
+		list = append(list, impl.Net{Flight: []impl.Msg{m}, Cut: []int64{1}})
+	}
+	return list
+}
+
 func anyPgs() []impl.Pg {
 	var list []impl.Pg
 	for _, n := range anyNumbers() {
@@ -980,8 +1005,69 @@ func callsOfRot(s impl.Store, v impl.Ver, pos, at, by int64) call {
 	}}
 }
 
+func callsOfMsgs() []call {
+	var list []call
+	for _, m := range anyMsgs() {
+		list = append(list, callsOfMsg(m)...)
+	}
+	for _, n := range anyNumbers() {
+		list = append(list,
+			call{"NodeOk", func() []any { return []any{impl.NodeOk(n)} }},
+			call{"ClientOk", func() []any { return []any{impl.ClientOk(n)} }})
+	}
+	for _, s := range anyTexts() {
+		list = append(list,
+			call{"GetMsg", func() []any { a, code := impl.GetMsg(s); return []any{a, code} }},
+			call{"GetMsg", func() []any { a, code := impl.GetMsg(framed(s)); return []any{a, code} }})
+	}
+	return list
+}
+
+func callsOfMsg(m impl.Msg) []call {
+	return []call{
+		{"MsgOk", func() []any { return []any{impl.MsgOk(m)} }},
+		{"MsgSame", func() []any { return []any{impl.MsgSame(m, sampleMsgs()[2])} }},
+		{"MsgSame", func() []any { return []any{impl.MsgSame(sampleMsgs()[2], m)} }},
+		{"MsgSame", func() []any { return []any{impl.MsgSame(m, m)} }},
+		{"PutMsg", func() []any { return []any{impl.PutMsg(m)} }},
+		{"GetMsg", func() []any { a, code := impl.GetMsg(impl.PutMsg(m)); return []any{a, code} }},
+		{"GetMsg", func() []any { a, code := impl.GetMsg(framed(bodyOfMsg(m))); return []any{a, code} }},
+	}
+}
+
+func callsOfNets() []call {
+	var list []call
+	for _, n := range anyNets() {
+		list = append(list, callsOfNet(n)...)
+	}
+	return list
+}
+
+// callsOfNet tells first whether something was done, since the net beside false
+// need not be zero.
+func callsOfNet(n impl.Net) []call {
+	list := []call{
+		{"NetOk", func() []any { return []any{impl.NetOk(n)} }},
+		{"SendAll", func() []any { return []any{impl.SendAll(n, n.Flight)} }},
+		{"SendAll", func() []any { return []any{impl.SendAll(impl.Net{}, n.Flight)} }},
+		{"SendAll", func() []any { return []any{impl.SendAll(n, sampleMsgs())} }},
+	}
+	for _, k := range append(anyNumbers(), 4, 5, 199, 200) {
+		list = append(list,
+			call{"TakeAt", func() []any { a, m, ok := impl.TakeAt(n, k); return []any{ok, m, a} }},
+			call{"DropAt", func() []any { a, ok := impl.DropAt(n, k); return []any{ok, a} }},
+			call{"DoubleAt", func() []any { a, ok := impl.DoubleAt(n, k); return []any{ok, a} }},
+			call{"CutNode", func() []any { a, ok := impl.CutNode(n, k); return []any{ok, a} }},
+			call{"HealNode", func() []any { a, ok := impl.HealNode(n, k); return []any{ok, a} }})
+	}
+	for _, m := range append(sampleMsgs(), impl.Msg{}) {
+		list = append(list, call{"Passes", func() []any { return []any{impl.Passes(n, m)} }})
+	}
+	return list
+}
+
 func allCalls() []call {
-	return slices.Concat(callsOfBytes(), callsOfField(), callsOfMatrices(), callsOfShards(), callsOfStripes(), callsOfTrees(), callsOfStraws(), callsOfRules(), callsOfPools(), callsOfBalances(), callsOfMaps(), callsOfActings(), callsOfIntervals(), callsOfDisks(), callsOfJournals(), callsOfOps(), callsOfLogs(), callsOfStores())
+	return slices.Concat(callsOfBytes(), callsOfField(), callsOfMatrices(), callsOfShards(), callsOfStripes(), callsOfTrees(), callsOfStraws(), callsOfRules(), callsOfPools(), callsOfBalances(), callsOfMaps(), callsOfActings(), callsOfIntervals(), callsOfDisks(), callsOfJournals(), callsOfOps(), callsOfLogs(), callsOfStores(), callsOfMsgs(), callsOfNets())
 }
 
 // failed reports whether results end with an error code or with false. A
@@ -1080,6 +1166,16 @@ func emptied(result any) {
 	case impl.Store:
 		emptied(x.Live)
 		emptied(x.Kept)
+	case impl.Msg:
+		emptied(x.State)
+	case []impl.Msg:
+		for _, m := range x {
+			emptied(m)
+		}
+		filled(x, impl.Msg{Kind: 99})
+	case impl.Net:
+		emptied(x.Flight)
+		filled(x.Cut, 99)
 	}
 }
 
@@ -1134,6 +1230,10 @@ func deepCopy(results []any) []any {
 			list[i] = copiedState(x)
 		case impl.Store:
 			list[i] = copiedStore(x)
+		case impl.Msg:
+			list[i] = copiedMsg(x)
+		case impl.Net:
+			list[i] = copiedNet(x)
 		}
 	}
 	return list
@@ -1946,4 +2046,117 @@ func TestSavedJournalsAreTheirOwn(t *testing.T) {
 			wantJournal(t, "SaveStore", got, code, want, impl.OK)
 		}
 	}
+}
+
+// P1: messages stay as they are, and so does what lies behind their lists, also
+// when the results are overwritten.
+func TestMessagesStayAsTheyAre(t *testing.T) {
+	for _, m := range anyMsgs() {
+		m.State = spareState(m.State)
+		before := wholeState(m.State)
+		for _, called := range callsOfMsg(m) {
+			for _, result := range called.run() {
+				emptied(result)
+			}
+		}
+		wantSame(t, "the state", wholeState(m.State), before)
+	}
+}
+
+// spareMsgs returns messages with unused capacity in all their lists, and behind
+// them.
+func spareMsgs(list []impl.Msg) []impl.Msg {
+	list = spare(list, impl.Msg{Kind: 7})
+	for i, m := range list {
+		list[i].State = spareState(m.State)
+	}
+	return list
+}
+
+// wholeMsgs returns a copy of messages and of all unused capacity.
+func wholeMsgs(list []impl.Msg) []impl.Msg {
+	list = whole(list)
+	for i, m := range list {
+		list[i].State = wholeState(m.State)
+	}
+	return list
+}
+
+// P1: nets and lists of messages stay as they are, and so does what lies behind
+// their lists, also when the results are overwritten.
+func TestNetsStayAsTheyAre(t *testing.T) {
+	for _, n := range anyNets() {
+		n = impl.Net{Flight: spareMsgs(n.Flight), Cut: spare(n.Cut, 7)}
+		flight, cut := wholeMsgs(n.Flight), whole(n.Cut)
+		for _, called := range callsOfNet(n) {
+			for _, result := range called.run() {
+				emptied(result)
+			}
+		}
+		wantSame(t, "the messages", wholeMsgs(n.Flight), flight)
+		wantSame(t, "the nodes that are cut", whole(n.Cut), cut)
+	}
+}
+
+// noticesIn returns a net with some messages that have states.
+func noticesIn() impl.Net {
+	n := impl.Net{Cut: []int64{1, 5, 9}}
+	for i, s := range rightStates()[3:9] {
+		m := msgAt(impl.MsNotice, 2, 3, s.Pg, s.Seen)
+		m.State = s
+		if i%3 == 2 {
+			m.To = 5
+		}
+		n.Flight = append(n.Flight, m)
+	}
+	return n
+}
+
+// P1: no net shares memory with what it was made of, nor one of its messages
+// with another, or with the one that was taken.
+func TestNetsAreTheirOwn(t *testing.T) {
+	for _, x := range []struct {
+		name string
+		make func(n impl.Net) (impl.Net, impl.Msg)
+	}{
+		{"SendAll", func(n impl.Net) (impl.Net, impl.Msg) { return impl.SendAll(impl.Net{}, n.Flight), impl.Msg{} }},
+		{"SendAll of its own", func(n impl.Net) (impl.Net, impl.Msg) { return impl.SendAll(n, n.Flight), impl.Msg{} }},
+		{"SendAll of one thing twice", func(n impl.Net) (impl.Net, impl.Msg) {
+			return impl.SendAll(n, []impl.Msg{n.Flight[0], n.Flight[0]}), impl.Msg{}
+		}},
+		{"SendAll of nothing", func(n impl.Net) (impl.Net, impl.Msg) { return impl.SendAll(n, nil), impl.Msg{} }},
+		{"TakeAt", func(n impl.Net) (impl.Net, impl.Msg) { rest, m, _ := impl.TakeAt(n, 1); return rest, m }},
+		{"TakeAt of what does not pass", func(n impl.Net) (impl.Net, impl.Msg) { rest, m, _ := impl.TakeAt(n, 2); return rest, m }},
+		{"TakeAt of nothing", func(n impl.Net) (impl.Net, impl.Msg) { rest, m, _ := impl.TakeAt(n, 6); return rest, m }},
+		{"DropAt", func(n impl.Net) (impl.Net, impl.Msg) { rest, _ := impl.DropAt(n, 0); return rest, impl.Msg{} }},
+		{"DropAt of nothing", func(n impl.Net) (impl.Net, impl.Msg) { rest, _ := impl.DropAt(n, -1); return rest, impl.Msg{} }},
+		{"DoubleAt", func(n impl.Net) (impl.Net, impl.Msg) { more, _ := impl.DoubleAt(n, 3); return more, impl.Msg{} }},
+		{"DoubleAt of nothing", func(n impl.Net) (impl.Net, impl.Msg) { more, _ := impl.DoubleAt(n, 6); return more, impl.Msg{} }},
+		{"CutNode", func(n impl.Net) (impl.Net, impl.Msg) { cut, _ := impl.CutNode(n, 3); return cut, impl.Msg{} }},
+		{"CutNode of nothing", func(n impl.Net) (impl.Net, impl.Msg) { cut, _ := impl.CutNode(n, 5); return cut, impl.Msg{} }},
+		{"HealNode", func(n impl.Net) (impl.Net, impl.Msg) { healed, _ := impl.HealNode(n, 5); return healed, impl.Msg{} }},
+		{"HealNode of nothing", func(n impl.Net) (impl.Net, impl.Msg) { healed, _ := impl.HealNode(n, 3); return healed, impl.Msg{} }},
+	} {
+		want, wantM := x.make(noticesIn())
+		want, wantM = copiedNet(want), copiedMsg(wantM)
+		n := noticesIn()
+		n = impl.Net{Flight: spareMsgs(n.Flight), Cut: spare(n.Cut, 7)}
+		got, m := x.make(n)
+		emptied(n)
+		wantNet(t, x.name, got, true, want, true)
+		wantMsg(t, x.name, m, 0, wantM, 0)
+		emptied(got.Cut)
+		want.Cut = slices.Clone(got.Cut)
+		// Each message is forgotten in turn, and the others are looked at.
+		for i := range got.Flight {
+			emptied(got.Flight[i])
+			got.Flight[i], want.Flight[i] = impl.Msg{}, impl.Msg{}
+			wantNet(t, x.name+", of each message", got, true, want, true)
+			wantMsg(t, x.name+", of the one that was taken", m, 0, wantM, 0)
+		}
+	}
+	m, _ := impl.GetMsg(framed(bodyOfMsg(sampleMsgs()[2])))
+	again, _ := impl.GetMsg(framed(bodyOfMsg(sampleMsgs()[2])))
+	emptied(m)
+	wantMsg(t, "GetMsg", again, 0, sampleMsgs()[2], 0)
 }
