@@ -216,6 +216,31 @@ func anyNets() []impl.Net {
 	return list
 }
 
+func anyMons() []impl.Mon {
+	r := source(226)
+	return slices.Concat(sampleMons(), []impl.Mon{fullMon()}, someMons(r, 6), []impl.Mon{{}, {Many: 6}, {Id: -1, Many: 3}, {Many: 3, Slots: []impl.Slot{{Epoch: 61}}}, {Many: 3, Try: impl.Try{Promises: []int64{2, 1}, Accepts: []int64{0}}}})
+}
+
+func anyMonMsgs() []impl.MonMsg {
+	list := append(sampleMonMsgs(), impl.MonMsg{}, impl.MonMsg{Kind: 9, From: -1, To: 7, Epoch: -3})
+	for id := range int64(5) {
+		for kind := range int64(5) {
+			g := impl.MonMsg{Kind: kind, From: 2, To: id, Epoch: 7, Ballot: ballot(4, 1)}
+			list = append(list, g, impl.MonMsg{Kind: kind, From: 0, To: id, Epoch: 6, Ballot: ballot(7, 2), Inc: upAt(6, 1)})
+		}
+	}
+	return list
+}
+
+func anyMonLists() [][]impl.Mon {
+	r := source(227)
+	list := [][]impl.Mon{nil, {}, {{}}, sampleMons(), anyMons()}
+	for many := int64(1); many <= 5; many++ {
+		list = append(list, allMons(many), mons(r, many), mons(r, many), mons(r, many), mons(r, many)[1:])
+	}
+	return list
+}
+
 func anyPgs() []impl.Pg {
 	var list []impl.Pg
 	for _, n := range anyNumbers() {
@@ -1066,8 +1091,52 @@ func callsOfNet(n impl.Net) []call {
 	return list
 }
 
+func callsOfMons() []call {
+	var list []call
+	for _, m := range anyMons() {
+		list = append(list, callsOfMon(m)...)
+	}
+	for _, g := range anyMonMsgs() {
+		list = append(list, call{"MonMsgOk", func() []any { return []any{impl.MonMsgOk(g)} }})
+	}
+	for _, id := range anyNumbers() {
+		for _, many := range anyNumbers() {
+			list = append(list, call{"NewMon", func() []any { m, code := impl.NewMon(id, many); return []any{m, code} }})
+		}
+	}
+	for _, mons := range anyMonLists() {
+		list = append(list, callsOfMonList(mons)...)
+	}
+	return list
+}
+
+func callsOfMon(m impl.Mon) []call {
+	list := []call{
+		{"MonOk", func() []any { return []any{impl.MonOk(m)} }},
+		{"MonCrash", func() []any { return []any{impl.MonCrash(m)} }},
+		{"Decided", func() []any { i, ok := impl.Decided(m); return []any{i, ok} }},
+	}
+	for _, g := range anyMonMsgs() {
+		list = append(list, call{"MonHear", func() []any { a, sent, code := impl.MonHear(m, g); return []any{a, sent, code} }})
+	}
+	for _, i := range []impl.Inc{{}, upAt(7, 3), upAt(2, 3), upAt(61, 3), upAt(2, 16), {Epoch: 7, Kind: 7}, {Epoch: math.MinInt64, Kind: math.MaxInt64}} {
+		for _, no := range []int64{math.MinInt64, -1, 0, 1, 2, 6, 999, 1000, math.MaxInt64} {
+			list = append(list, call{"Propose", func() []any { a, sent, code := impl.Propose(m, i, no); return []any{a, sent, code} }})
+		}
+	}
+	return list
+}
+
+func callsOfMonList(mons []impl.Mon) []call {
+	var list []call
+	for _, epoch := range append(anyNumbers(), 2, 3, 4, 5, 30, 60) {
+		list = append(list, call{"Chosen", func() []any { incs, ok := impl.Chosen(mons, epoch); return []any{incs, ok} }})
+	}
+	return list
+}
+
 func allCalls() []call {
-	return slices.Concat(callsOfBytes(), callsOfField(), callsOfMatrices(), callsOfShards(), callsOfStripes(), callsOfTrees(), callsOfStraws(), callsOfRules(), callsOfPools(), callsOfBalances(), callsOfMaps(), callsOfActings(), callsOfIntervals(), callsOfDisks(), callsOfJournals(), callsOfOps(), callsOfLogs(), callsOfStores(), callsOfMsgs(), callsOfNets())
+	return slices.Concat(callsOfBytes(), callsOfField(), callsOfMatrices(), callsOfShards(), callsOfStripes(), callsOfTrees(), callsOfStraws(), callsOfRules(), callsOfPools(), callsOfBalances(), callsOfMaps(), callsOfActings(), callsOfIntervals(), callsOfDisks(), callsOfJournals(), callsOfOps(), callsOfLogs(), callsOfStores(), callsOfMsgs(), callsOfNets(), callsOfMons())
 }
 
 // failed reports whether results end with an error code or with false. A
@@ -1141,6 +1210,14 @@ func emptied(result any) {
 			filled(v.Acting, 99)
 		}
 		filled(x, impl.Interval{First: 99})
+	default:
+		emptiedOfStores(result)
+	}
+}
+
+// emptiedOfStores is emptied for the types of chapter 14 and later ones.
+func emptiedOfStores(result any) {
+	switch x := result.(type) {
 	case impl.Disk:
 		filled(x.Sectors, "spoilt")
 		filled(x.Waits, write(99, "spoilt"))
@@ -1176,67 +1253,93 @@ func emptied(result any) {
 	case impl.Net:
 		emptied(x.Flight)
 		filled(x.Cut, 99)
+	case []impl.Inc:
+		filled(x, impl.Inc{Epoch: 99})
+	case []impl.MonMsg:
+		filled(x, impl.MonMsg{Kind: 99})
+	case impl.Mon:
+		filled(x.Slots, impl.Slot{Epoch: 99})
+		filled(x.Try.Promises, 99)
+		filled(x.Try.Accepts, 99)
 	}
 }
 
 func deepCopy(results []any) []any {
 	list := slices.Clone(results)
 	for i, result := range list {
-		switch x := result.(type) {
-		case impl.Matrix:
-			x.Cells = slices.Clone(x.Cells)
-			list[i] = x
-		case impl.Wide:
-			x.Columns = slices.Clone(x.Columns)
-			list[i] = x
-		case impl.Tree:
-			list[i] = copied(x)
-		case []int64:
-			list[i] = slices.Clone(x)
-		case []string:
-			list[i] = slices.Clone(x)
-		case []impl.Delta:
-			list[i] = slices.Clone(x)
-		case []impl.Pg:
-			list[i] = slices.Clone(x)
-		case [][]int64:
-			list[i] = copiedRows(x)
-		case []impl.Load:
-			list[i] = slices.Clone(x)
-		case []impl.Except:
-			list[i] = slices.Clone(x)
-		case impl.Map:
-			list[i] = copiedMap(x)
-		case []impl.Map:
-			x = slices.Clone(x)
-			for k, m := range x {
-				x[k] = copiedMap(m)
-			}
-			list[i] = x
-		case impl.Interval:
-			x.Acting = slices.Clone(x.Acting)
-			list[i] = x
-		case []impl.Interval:
-			list[i] = copiedIntervals(x)
-		case impl.Disk:
-			list[i] = copiedDisk(x)
-		case impl.Journal:
-			list[i] = copiedJournal(x)
-		case []impl.Head:
-			list[i] = slices.Clone(x)
-		case []impl.Last:
-			list[i] = slices.Clone(x)
-		case impl.PgState:
-			list[i] = copiedState(x)
-		case impl.Store:
-			list[i] = copiedStore(x)
-		case impl.Msg:
-			list[i] = copiedMsg(x)
-		case impl.Net:
-			list[i] = copiedNet(x)
-		}
+		list[i] = copiedResult(result)
 	}
 	return list
+}
+
+func copiedResult(result any) any {
+	switch x := result.(type) {
+	case impl.Matrix:
+		x.Cells = slices.Clone(x.Cells)
+		return x
+	case impl.Wide:
+		x.Columns = slices.Clone(x.Columns)
+		return x
+	case impl.Tree:
+		return copied(x)
+	case []int64:
+		return slices.Clone(x)
+	case []string:
+		return slices.Clone(x)
+	case []impl.Delta:
+		return slices.Clone(x)
+	case []impl.Pg:
+		return slices.Clone(x)
+	case [][]int64:
+		return copiedRows(x)
+	case []impl.Load:
+		return slices.Clone(x)
+	case []impl.Except:
+		return slices.Clone(x)
+	case impl.Map:
+		return copiedMap(x)
+	case []impl.Map:
+		x = slices.Clone(x)
+		for k, m := range x {
+			x[k] = copiedMap(m)
+		}
+		return x
+	case impl.Interval:
+		x.Acting = slices.Clone(x.Acting)
+		return x
+	case []impl.Interval:
+		return copiedIntervals(x)
+	}
+	return copiedStored(result)
+}
+
+// copiedStored is copiedResult for the types of chapter 14 and later ones.
+func copiedStored(result any) any {
+	switch x := result.(type) {
+	case impl.Disk:
+		return copiedDisk(x)
+	case impl.Journal:
+		return copiedJournal(x)
+	case []impl.Head:
+		return slices.Clone(x)
+	case []impl.Last:
+		return slices.Clone(x)
+	case impl.PgState:
+		return copiedState(x)
+	case impl.Store:
+		return copiedStore(x)
+	case impl.Msg:
+		return copiedMsg(x)
+	case impl.Net:
+		return copiedNet(x)
+	case []impl.Inc:
+		return slices.Clone(x)
+	case []impl.MonMsg:
+		return slices.Clone(x)
+	case impl.Mon:
+		return copiedMon(x)
+	}
+	return result
 }
 
 func copiedRows(rows [][]int64) [][]int64 {
@@ -1273,7 +1376,7 @@ func TestCallsReturnTheSame(t *testing.T) {
 
 // P1: calls at the same time have the results that they have one by one.
 func TestCallsAtTheSameTime(t *testing.T) {
-	calls := callsOfBytes()
+	calls := append(callsOfBytes(), callsOfMons()...)
 	results := make([][][]any, 8)
 	var group sync.WaitGroup
 	for i := range results {
@@ -2159,4 +2262,81 @@ func TestNetsAreTheirOwn(t *testing.T) {
 	again, _ := impl.GetMsg(framed(bodyOfMsg(sampleMsgs()[2])))
 	emptied(m)
 	wantMsg(t, "GetMsg", again, 0, sampleMsgs()[2], 0)
+}
+
+// spareMon returns m with unused capacity in all its lists.
+func spareMon(m impl.Mon) impl.Mon {
+	m.Slots = spare(m.Slots, impl.Slot{Epoch: 7})
+	m.Try.Promises, m.Try.Accepts = spare(m.Try.Promises, 7), spare(m.Try.Accepts, 7)
+	return m
+}
+
+// wholeMon returns a copy of m and of all unused capacity.
+func wholeMon(m impl.Mon) impl.Mon {
+	m.Slots = whole(m.Slots)
+	m.Try.Promises, m.Try.Accepts = whole(m.Try.Promises), whole(m.Try.Accepts)
+	return m
+}
+
+// P1: monitors stay as they are, and so does what lies behind their lists, also
+// when the results are overwritten.
+func TestMonsStayAsTheyAre(t *testing.T) {
+	for _, m := range anyMons() {
+		m = spareMon(m)
+		before := wholeMon(m)
+		for _, called := range callsOfMon(m) {
+			for _, result := range called.run() {
+				emptied(result)
+			}
+		}
+		wantSame(t, "the monitor", wholeMon(m), before)
+	}
+	for _, list := range anyMonLists() {
+		list = spare(list, impl.Mon{Id: 7})
+		for i, m := range list {
+			list[i] = spareMon(m)
+		}
+		before := whole(list)
+		for i, m := range list {
+			before[i] = wholeMon(m)
+		}
+		for _, called := range callsOfMonList(list) {
+			for _, result := range called.run() {
+				emptied(result)
+			}
+		}
+		after := whole(list)
+		for i, m := range list {
+			after[i] = wholeMon(m)
+		}
+		wantSame(t, "the monitors", after, before)
+	}
+}
+
+// P1: no monitor shares memory with what it was made of, nor one of its lists
+// with another.
+func TestMonsAreTheirOwn(t *testing.T) {
+	hear := func(g impl.MonMsg) func(m impl.Mon) impl.Mon {
+		return func(m impl.Mon) impl.Mon { m, _, _ = impl.MonHear(m, g); return m }
+	}
+	propose := func(i impl.Inc) func(m impl.Mon) impl.Mon {
+		return func(m impl.Mon) impl.Mon { m, _, _ = impl.Propose(m, i, 999); return m }
+	}
+	does := []func(m impl.Mon) impl.Mon{impl.MonCrash, propose(upAt(7, 3)), propose(upAt(9, 3)), propose(upAt(60, 3))}
+	for _, g := range anyMonMsgs() {
+		does = append(does, hear(g))
+	}
+	for _, m := range anyMons() {
+		for _, do := range does {
+			want := copiedMon(do(copiedMon(m)))
+			from := spareMon(m)
+			got := do(from)
+			emptied(from)
+			wantMon(t, "with the argument overwritten", got, nil, 0, want, nil, 0)
+			filled(got.Try.Promises, 99)
+			wantList(t, "Accepts", got.Try.Accepts, 0, want.Try.Accepts, 0)
+			filled(got.Try.Accepts, 99)
+			wantList(t, "Slots", got.Slots, 0, want.Slots, 0)
+		}
+	}
 }
